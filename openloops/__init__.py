@@ -1,0 +1,1 @@
+"""Programs with open loops, and what they do for all counts."""

@@ -1,0 +1,141 @@
+"""What several tests use: plain counting, values of all kinds, and lists within results."""
+
+import itertools
+import time
+
+from openloops.automata import Automaton
+from openloops.grids import Grid
+from openloops.pointsets import PointSet, all_points
+from openloops.texts import OpenText
+
+BIG = 10 ** 29
+GREATEST = 10 ** 30 - 1
+# Far more than any call takes here, so that a slow machine does not fail a test.
+SECONDS = 10
+
+
+def nested(depth):
+    """Return a list within lists, so many deep."""
+    value = []
+    for _ in range(depth - 1):
+        value = [value]
+    return value
+
+
+DEEP = nested(30)
+DEEP_TUPLE = ("a", (1, nested(28)))
+TEXT = OpenText(1, [("ab", (1, 2))])
+GRID = Grid([(1, 2)])
+SET = all_points(1)
+AUTOMATON = Automaton("a", [[1, 0], [0, 1]], ends=[0])
+
+NO_COUNT = [None, True, False, "", "1", (1,), [1], {}, {1: 1}, -1, -BIG, DEEP, TEXT, GRID, SET, AUTOMATON]
+NO_MANY = NO_COUNT + [4, 5, BIG]
+NO_FORM = [None, True, 1, "", "ab", [0, 7], (), (0, 0, 0, 0, 0), (-1,), (True,), (0, False), (0, "1"), (0, None),
+           (0, (1,)), {}, DEEP, DEEP_TUPLE, TEXT, GRID, SET, AUTOMATON]
+NO_WORD = [None, True, 0, 7, "A", "a b", "ab\n", "a1", "-", " ", ["a"], ("a",), {}, "a" * 20001, DEEP, TEXT, GRID,
+           SET, AUTOMATON]
+NO_LETTER = NO_WORD + ["", "ab", "aa"]
+NO_TEXT = [None, True, 1, "ab", "", [("ab", (1, 2))], (1, [("ab", (1, 2))]), [], {}, DEEP, GRID, SET, AUTOMATON]
+NO_GRID = [None, True, 1, "", [(1, 2)], ((1, 2),), [], {}, DEEP, TEXT, SET, AUTOMATON]
+NO_SET = [None, True, 1, "", [[0]], [], (), {}, DEEP, TEXT, GRID, AUTOMATON]
+NO_AUTOMATON = [None, True, 1, "", "a", [[1, 0], [0, 1]], [], (), {}, DEEP, TEXT, GRID, SET]
+
+
+def no_point(many):
+    """Return values that are no point for as many unknowns, from 1 on."""
+    zeros = [0] * many
+    return [None, True, 0, "", "0" * many, tuple(zeros), [], zeros[1:], zeros + [0], zeros[1:] + [-1],
+            zeros[1:] + [True], zeros[1:] + [None], zeros[1:] + ["0"], [zeros] * many, {}, {0: 0}, DEEP,
+            TEXT, GRID, SET, AUTOMATON]
+
+
+def no_forms(many, how_many):
+    """Return values that are no list of so many forms for `many` unknowns, from 1 form on."""
+    form = (0,) * (many + 1)
+    forms = [form] * how_many
+    return [None, True, 0, "", form, tuple(forms), [], forms[1:], forms + [form], forms[1:] + [form + (0,)],
+            forms[1:] + [form[1:]], forms[1:] + [list(form)], forms[1:] + [(True,) + form[1:]],
+            forms[1:] + [(-1,) + form[1:]], forms[1:] + [None], {}, DEEP, TEXT, GRID, SET, AUTOMATON]
+
+
+def cube(many, most):
+    """Return all points whose numbers are at most `most`, in order."""
+    return [list(point) for point in itertools.product(range(most + 1), repeat=many)]
+
+
+def by_sum(many, most):
+    """Return all points whose numbers have a sum of at most `most`, the least points first."""
+    return sorted([point for point in cube(many, most) if sum(point) <= most], key=lambda point: (sum(point), point))
+
+
+def plain_value(form, point):
+    """Return the value of a form, counted plainly."""
+    total = form[0]
+    for number, count in zip(form[1:], point):
+        total += number * count
+    return total
+
+
+def plain_word(pieces, point):
+    """Return what pieces write at a point, written out plainly."""
+    return "".join(word * plain_value(form, point) for word, form in pieces)
+
+
+def random_form(chance, many, most=2):
+    """Return a form with numbers of at most `most`."""
+    return tuple(chance.randint(0, most) for _ in range(many + 1))
+
+
+def random_pieces(chance, many, how_many, letters="ab", longest=3, most=2):
+    """Return a list of pieces, the same for the same chance."""
+    return [("".join(chance.choice(letters) for _ in range(chance.randint(0, longest))),
+             random_form(chance, many, most)) for _ in range(how_many)]
+
+
+def random_set(chance, many):
+    """Return a set of points for as many unknowns, the same for the same chance."""
+    # Small enough that the meeting of the grids of any two has at most 600 classes.
+    most = 2 if many == 3 else 4
+    limits = [(chance.randint(0, most - 1), chance.randint(1, most)) for _ in range(many)]
+    points = [list(point) for point in itertools.product(*[range(sum(limit)) for limit in limits])]
+    share = chance.choice([0, 0.2, 0.5, 0.8, 1])
+    return PointSet(Grid(limits), [point for point in points if chance.random() < share])
+
+
+def lists_within(value):
+    """Return all list objects within a value, in the order in which they are found."""
+    if isinstance(value, list):
+        return [value] + [inner for item in value for inner in lists_within(item)]
+    if isinstance(value, tuple):
+        return [inner for item in value for inner in lists_within(item)]
+    return []
+
+
+def same_list_twice(value):
+    """Tell whether a list object occurs twice in a value."""
+    found = lists_within(value)
+    return len({id(item) for item in found}) < len(found)
+
+
+def spoil(value):
+    """Change all lists within a value, so that whoever still holds one of them is found out."""
+    for item in lists_within(value):
+        item.append("spoilt")
+        item.reverse()
+
+
+def raised(call):
+    """Return the error that a call raises, None if it raises none."""
+    try:
+        call()
+    except ValueError as error:
+        return error
+    return None
+
+
+def seconds(call):
+    """Return how many seconds a call takes."""
+    start = time.perf_counter()
+    call()
+    return time.perf_counter() - start
