@@ -60,13 +60,7 @@ def moved(automaton, word):
 
 def rounds(automaton, word):
     """Return from how many times on, and after how many more, a word leads each state the same way."""
-    step = moved(automaton, word)
-    states, seen = list(range(len(step))), []
-    while states not in seen:
-        seen.append(states)
-        states = [step[state] for state in states]
-    threshold = seen.index(states)
-    return (threshold, len(seen) - threshold)
+    return turns_by(automaton, word)[0]
 
 
 def state_behind(automaton, word):
@@ -81,6 +75,17 @@ def state_behind(automaton, word):
 def accepts(automaton, word):
     """Tell whether an automaton accepts a word."""
     return state_behind(automaton, word) in automaton.ends()
+
+
+def turns_by(automaton, word):
+    """Return the rounds of a word and, for each number of times below their end, where it leads each state."""
+    step = moved(automaton, word)
+    states, seen = list(range(len(step))), []
+    while states not in seen:
+        seen.append(states)
+        states = [step[state] for state in states]
+    threshold = seen.index(states)
+    return (threshold, len(seen) - threshold), seen
 
 
 def is_alphabet(value):
@@ -109,16 +114,21 @@ def is_rising(how_many, value):
     return value == sorted(set(value))
 
 
-def require_reading(automaton, word):
-    """Raise an error unless the arguments are an automaton and a word."""
+def require_automaton(automaton):
+    """Raise an error unless an argument is an automaton."""
     if not isinstance(automaton, Automaton):
         raise InvalidAutomaton(automaton)
+
+
+def require_reading(automaton, word):
+    """Raise an error unless the arguments are an automaton and a word."""
+    require_automaton(automaton)
     if not is_word(word):
         raise InvalidWord(word)
 
 
-def columns_of(automaton, word):
-    """Return, for each letter of a word, its place in the rows of an automaton."""
-    letters = automaton.letters()
+def columns_of(machine, word):
+    """Return, for each letter of a word, its place in the rows of an automaton or a maker."""
+    letters = machine.letters()
     places = {letter: at for at, letter in enumerate(letters)}
     return [places.get(letter, len(letters)) for letter in word]

@@ -4,6 +4,7 @@ from openloops.errors import InvalidNumber
 
 MOST_UNKNOWNS = 3
 LONGEST_WORD = 20000
+ALPHABET = "abcdefghijklmnopqrstuvwxyz"
 
 
 def is_whole(value):

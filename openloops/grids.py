@@ -34,10 +34,7 @@ class Grid:
 def classes(grid):
     """Return all classes of a grid in order."""
     require_grid(grid)
-    points = [[]]
-    for threshold, period in grid.limits():
-        points = [point + [count] for point in points for count in range(threshold + period)]
-    return points
+    return points_of(grid.limits())
 
 
 def each_class(grid):
@@ -61,8 +58,7 @@ def place_in_class(grid, point):
 def class_forms(grid, point):
     """Return the forms whose values at a place are the counts of the point with this place."""
     require_grid_point(grid, point)
-    return [form_of_unknown(grid.many(), at, class_count(limit, count), step_of(limit, count))
-            for at, (limit, count) in enumerate(zip(grid.limits(), point))]
+    return forms_of(grid.limits(), point)
 
 
 def refines(one, other):
@@ -75,8 +71,7 @@ def refines(one, other):
 def meeting(one, other):
     """Return the grid with the fewest classes that refines both grids."""
     require_like_grids(one, other)
-    return Grid([(max(limit[0], mate[0]), lcm(limit[1], mate[1]))
-                 for limit, mate in zip(one.limits(), other.limits())])
+    return Grid(meeting_limits(one.limits(), other.limits()))
 
 
 def within(grid, point, finer):
@@ -110,6 +105,25 @@ def is_limit(value):
     if not isinstance(value, tuple) or len(value) != 2:
         return False
     return is_count(value[0]) and is_whole(value[1]) and value[1] >= 1
+
+
+def points_of(limits):
+    """Return all classes of the grid with these limits in order, however many there are."""
+    points = [[]]
+    for threshold, period in limits:
+        points = [point + [count] for point in points for count in range(threshold + period)]
+    return points
+
+
+def forms_of(limits, point):
+    """Return the forms whose values at a place are the counts of the point with this place in a class."""
+    return [form_of_unknown(len(limits), at, class_count(limit, count), step_of(limit, count))
+            for at, (limit, count) in enumerate(zip(limits, point))]
+
+
+def meeting_limits(one, other):
+    """Return, for each unknown, the least limit that refines both of its limits."""
+    return [(max(limit[0], mate[0]), lcm(limit[1], mate[1])) for limit, mate in zip(one, other)]
 
 
 def how_many_classes(limits):

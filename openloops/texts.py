@@ -132,7 +132,19 @@ def powers(text):
 
 def text_with(text, many, forms):
     """Return an open text with forms for `many` unknowns, ones that fit, in place of the unknowns."""
-    return OpenText(many, [(word, form_with(form, many, forms)) for word, form in text.pieces()])
+    pieces = text.pieces()
+    led = pieces_with(pieces, many, forms)
+    if many == text.many() and led == pieces:
+        return text
+    return OpenText(many, led)
+
+
+def pieces_with(pieces, many, forms):
+    """Return pieces with forms for `many` unknowns, ones that fit, in place of the unknowns."""
+    # Many pieces may have one form, so each form is looked at once.
+    made = {form: True for _, form in pieces}
+    made = {form: form_with(form, many, forms) for form in made}
+    return [(word, made[form]) for word, form in pieces]
 
 
 def runs_at(pieces, point):
