@@ -7,13 +7,7 @@ from openloops.words import same_runs
 def decisive(one, other):
     """Return a point at which two open texts write the same word only if they are equal."""
     require_like_texts(one, other)
-    base = max(spread(one), spread(other))
-    number = max(size(one), size(other)) + 1
-    point = []
-    for _ in range(one.many()):
-        point.append(number)
-        number = number * base
-    return point
+    return decisive_point(one.many(), max(size(one), size(other)), max(spread(one), spread(other)))
 
 
 def parting(one, other):
@@ -26,6 +20,15 @@ def parting(one, other):
         if not same_runs(runs_at(pieces, point), runs_at(rivals, point)):
             return point
     return None
+
+
+def decisive_point(many, letters, base):
+    """Return the point that decides for texts of sizes of at most `letters` and spreads of at most `base`."""
+    point, number = [], letters + 1
+    for _ in range(many):
+        point.append(number)
+        number = number * base
+    return point
 
 
 def points_in_question(many, most):

@@ -1,19 +1,33 @@
 """A table of all functions: good arguments, and what is wrong for each argument with an error of its own."""
 
-from helpers import (AUTOMATON, GRID, NO_AUTOMATON, NO_COUNT, NO_FORM, NO_GRID, NO_LETTER, NO_MANY, NO_SET, NO_TEXT,
-                     NO_WORD, BIG, DEEP, DEEP_TUPLE, SET, TEXT, no_forms, no_point)
+from helpers import (AUTOMATON, BIG, DEEP, DEEP_TUPLE, GRID, MAKER, NO_AUTOMATON, NO_COUNT, NO_FORM, NO_GRID,
+                     NO_LETTER, NO_MAKER, NO_MANY, NO_NAME, NO_PROGRAM, NO_SET, NO_TABLE, NO_TEXT, NO_WORD, OBJECTS,
+                     PROGRAM, SET, TABLE, TEXT, no_amount, no_amounts, no_forms, no_point)
 from openloops import errors
+from openloops.accepted import accepted, set_automaton, state_at, state_grid, state_sets
 from openloops.alike import decisive, parting
 from openloops.automata import Automaton, accepts, moved, rounds, state_behind
+from openloops.compiled import compiled, parting_parts, part_grid, program_of, same_parts
+from openloops.derivations import derivation
 from openloops.forms import inserted, is_form, value
 from openloops.grids import (Grid, class_forms, class_of, classes, each_class, led_forms, meeting, place_in_class,
                              refines, within)
+from openloops.machines import least_automaton, parting_word
+from openloops.makers import Maker, made_word, maker_states
+from openloops.maketables import made_table
+from openloops.making import asked_behind, maker_behind, parting_input
 from openloops.pieces import is_normal, normal
 from openloops.pointcounts import each_point, how_many_ahead, how_many_in, how_many_points, point_in
 from openloops.pointsets import (PointSet, all_points, first_parting, no_points, one_point, other_points, points_from,
                                  points_leaving)
 from openloops.pointviews import every_points, first_point, fixed_points, led_grid, led_points, some_points
+from openloops.programs import Program, amount_value, is_amount
+from openloops.rewriting import is_step, stepped
+from openloops.running import run, run_length, run_letter, run_letters, run_part
 from openloops.shifts import earlier, later, thinned
+from openloops.tables import CaseTable
+from openloops.tableviews import (agreeing_points, chosen, joined_tables, parting_tables, table_at, table_length,
+                                  table_letter, table_of, table_written, text_at, texts_on)
 from openloops.texts import (OpenText, joined, length, letters, repeated, replaced, size, spread, text_letter, unknowns,
                              written)
 
@@ -32,6 +46,46 @@ NO_ROWS = [None, True, 0, "", [], (), {}, [[0]], [[0, 0, 0]], [[0, 1]], [[0, -1]
            ((0, 0),), [[0, 0], [0, 2]], [[0, 0], 0], [[0, 0]] * 13, DEEP, TEXT, AUTOMATON]
 NO_ENDS = [None, True, 0, "", (), (0,), {}, [2], [-1], [True], [None], [0, 0], [1, 0], [[0]], DEEP, TEXT, AUTOMATON]
 NO_STATE = NO_COUNT + [2, BIG]
+NO_ENTRIES = [None, True, 0, "", [], (), {}, [[(0, "", True)]], [[(0, "", True)] * 3], [[(0, "", True), (1, "", True)]],
+              [[(0, "", True), (-1, "", True)]], [[(0, "", True), (True, "", True)]], [[(0, "", True), (0, "A", True)]],
+              [[(0, "", True), (0, "a" * 2001, True)]], [[(0, "", True), (0, "", 1)]], [[(0, "", True), (0, "", None)]],
+              [[(0, "", True), (0, "")]], [[(0, "", True), [0, "", True]]], [((0, "", True), (0, "", True))],
+              ([(0, "", True), (0, "", True)],), [[(0, "", True), (0, 0, True)]], [[(0, "", True)] * 2] * 13, [0],
+              DEEP, TEXT, MAKER]
+NO_CLOSING = [None, True, 0, "", "ab", (), ("", ""), {}, [], [""], [""] * 3, ["", "A"], ["", None], ["", 0],
+              ["", "a" * 2001], ["", [""]], DEEP, TEXT, MAKER]
+NO_TEXTS = [None, True, 0, "", (), (TEXT, TEXT, TEXT), {}, [], [TEXT], [TEXT] * 2, [TEXT] * 4, [TEXT, TEXT, None],
+            [TEXT, TEXT, "ab"], [TEXT, TEXT, PAIR], [TEXT, TEXT, [TEXT]], [PAIR] * 3, DEEP] + OBJECTS
+NO_PARTS = [None, True, 0, "", "main", (), (("main", 0, []),), {}, ("main", 0, []),
+            [("a" * at, 0, []) for at in range(1, 13)] + [("b", 0, [])]] + OBJECTS
+NO_ROW = [None, True, 0, "", (), {}, ("write", "a"), (("write", "a"),), [None], [[]], ["write"], [("write",)],
+          [("write", "")], [("write", "a" * 41)], [("write", "A")], [("write", "a", "b")], [["write", "a"]],
+          [("read", "a")], [()], [("times", ((0, 1), 0, 1))], [("times", ((0, 1), 0, 1), ())],
+          [("times", ((0, 1), 0, 1), [None])], [("times", ((0, 1), 0, 0), [])], [("times", ((0, 1, 0), 0, 1), [])],
+          [("times", (0, 1), [])], [("times", ((0, True), 0, 1), [])], [("times", ((0, 1), 0, True), [])],
+          [("below", ((0, 1), 0, 1), 2, [])], [("below", ((0, 1), 0, 1), -1, [], [])],
+          [("below", ((0, 1), 0, 1), True, [], [])], [("below", ((0, 1), 0, 1), 2, [], ())],
+          [("below", ((0, 1), 0, 1), 2, [], [("write", 1)])], [("leaves", ((0, 1), 0, 1), 0, 1, [])],
+          [("leaves", ((0, 1), 0, 1), 1, 1, [], [])], [("leaves", ((0, 1), 0, 1), 0, 0, [], [])],
+          [("leaves", ((0, 1), 0, 1), -1, 2, [], [])], [("leaves", ((0, 1), 0, 1), True, 2, [], [])],
+          [("leaves", ((0, 1), 0, 1), 0, True, [], [])], [("call", "row", [])], [("call", "none", [])],
+          [("call", "row", [((0, 1), 0, 1)] * 2)], [("call", "row", (((0, 1), 0, 1),))], [("call", "row")],
+          [("call", "row", [(0, 1)])], [("call", "row", [((0, 1, 1), 0, 1)])], [("call", ["row"], [((0, 1), 0, 1)])],
+          DEEP, TEXT, PROGRAM]
+BODY = [("write", "a"), ("times", ((0, 1), 0, 1), [("write", "ba")])]
+STEP = ("spell", (1, 0), 0, [("write", "ba")], [("write", "b"), ("write", "a")])
+NO_STEP = [None, True, 0, "", "spell", (), [], {}, list(STEP), STEP[:4], STEP + (0,), ("spelt",) + STEP[1:],
+           (0,) + STEP[1:], (["spell"],) + STEP[1:], ("spell", [1, 0]) + STEP[2:], ("spell", (1,)) + STEP[2:],
+           ("spell", (1, 1)) + STEP[2:], ("spell", (2, 0)) + STEP[2:], ("spell", (True, 0)) + STEP[2:],
+           ("spell", (-1, 0)) + STEP[2:], ("spell", ()) + STEP[2:], ("spell", (0, 0)) + STEP[2:],
+           STEP[:2] + (1,) + STEP[3:], STEP[:2] + (-1,) + STEP[3:], STEP[:2] + (False,) + STEP[3:],
+           STEP[:2] + (None,) + STEP[3:], STEP[:3] + ((("write", "ba"),), STEP[4]), STEP[:3] + ([("write", "b")], STEP[4]),
+           STEP[:4] + ([("write", "b")],), STEP[:4] + ((("write", "ba"),),), STEP[:4] + (None,),
+           STEP[:4] + ([("write", "ba"), ("write", "")],), DEEP, DEEP_TUPLE] + OBJECTS
+EVENS = CaseTable(Grid([(0, 1)]), [OpenText(1, [("aa", (0, 1))])])
+PAIR_TABLE = CaseTable(Grid([(0, 1), (1, 1)]), [OpenText(2, []), PAIR])
+LEADS = Program(PROGRAM.parts() + [("one", 1, BODY), ("other", 1, [("times", ((0, 1), 0, 1), [("write", "ab")]),
+                                                                   ("write", "a")])])
 NO_POINT_AT_ALL = [bad for bad in no_point(4) if bad not in ([], [0, 0, 0])] + [[0] * 4]
 
 NUMBER, WORD, FORM, POINT, LIST = (errors.InvalidNumber, errors.InvalidWord, errors.InvalidForm, errors.InvalidPoint,
@@ -41,11 +95,19 @@ A_MANY, A_COUNT, A_FORM, A_LETTER = (NUMBER, NO_MANY), (NUMBER, NO_COUNT), (FORM
 A_TEXT, A_GRID, A_SET = (errors.InvalidText, NO_TEXT), (errors.InvalidGrid, NO_GRID), (errors.InvalidSet, NO_SET)
 A_MACHINE, A_WORD = (errors.InvalidAutomaton, NO_AUTOMATON), (WORD, NO_WORD)
 A_POINT, A_PAIR = (POINT, no_point(1)), (POINT, no_point(2))
+A_MAKER, A_TABLE, A_PROGRAM = ((errors.InvalidMaker, NO_MAKER), (errors.InvalidTable, NO_TABLE),
+                               (errors.InvalidProgram, NO_PROGRAM))
+A_NAME, A_ROW, A_STEP = (errors.UnknownPart, NO_NAME), (LIST, NO_ROW), (errors.InvalidStep, NO_STEP)
 
 
 def made_automaton(letters, rows, start, ends):
     """Make an automaton with all arguments by position, as the other calls are made."""
     return Automaton(letters, rows, start=start, ends=ends)
+
+
+def made_maker(letters, rows, start, closing):
+    """Make a maker with all arguments by position."""
+    return Maker(letters, rows, start=start, closing=closing)
 
 
 def looped_classes(grid):
@@ -116,4 +178,49 @@ CALLS = [
     (rounds, [AUTOMATON, "aba"], [A_MACHINE, A_WORD]),
     (state_behind, [AUTOMATON, "aba"], [A_MACHINE, A_WORD]),
     (accepts, [AUTOMATON, "aba"], [A_MACHINE, A_WORD]),
+    (parting_word, [AUTOMATON, Automaton("", [[0]], ends=[0])], [A_MACHINE, A_MACHINE]),
+    (least_automaton, [AUTOMATON], [A_MACHINE]),
+    (state_grid, [TEXT, AUTOMATON], [A_TEXT, A_MACHINE]),
+    (state_sets, [TEXT, AUTOMATON], [A_TEXT, A_MACHINE]),
+    (accepted, [TEXT, AUTOMATON], [A_TEXT, A_MACHINE]),
+    (state_at, [TEXT, AUTOMATON, [BIG]], [A_TEXT, A_MACHINE, A_POINT]),
+    (set_automaton, [ODD, "b"], [(errors.InvalidSet, NO_SET + [all_points(0), PAIRS]), A_LETTER]),
+    (made_maker, ["a", [[(1, "", False), (0, "b", True)], [(0, "x", False), (0, "a", True)]], 1, ["", "a"]],
+     [(WORD, NO_ALPHABET), (LIST, NO_ENTRIES), (NUMBER, NO_STATE), (LIST, NO_CLOSING)]),
+    (maker_states, [MAKER], [A_MAKER]),
+    (made_word, [MAKER, "aaabaac"], [A_MAKER, A_WORD]),
+    (parting_input, [MAKER, Maker("", [[(0, "", True)]], closing=[""])], [A_MAKER, A_MAKER]),
+    (maker_behind, [MAKER, MAKER], [A_MAKER, A_MAKER]),
+    (asked_behind, [MAKER, AUTOMATON], [A_MAKER, A_MACHINE]),
+    (made_table, [TEXT, MAKER], [A_TEXT, A_MAKER]),
+    (CaseTable, [GRID, [TEXT, TEXT, OpenText(1, [])]], [A_GRID, (LIST, NO_TEXTS)]),
+    (text_at, [PAIR_TABLE, [2, 1]], [A_TABLE, A_PAIR]),
+    (table_written, [PAIR_TABLE, [2, 1]], [A_TABLE, A_PAIR]),
+    (table_length, [PAIR_TABLE, [2, BIG]], [A_TABLE, A_PAIR]),
+    (table_letter, [TABLE, [4], 3], [A_TABLE, A_POINT, (NUMBER, NO_COUNT + [4, BIG])]),
+    (texts_on, [EVENS, FINER], [A_TABLE, A_GRID]),
+    (table_of, [PAIR], [A_TEXT]),
+    (joined_tables, [EVENS, TABLE], [A_TABLE, A_TABLE]),
+    (table_at, [PAIR_TABLE, 1, [((0, 1), 0, 2), ((0, 1), 1, 1)]], [A_TABLE, A_MANY, (LIST, no_amounts(1, 2))]),
+    (chosen, [ODD, EVENS, TABLE], [A_SET, A_TABLE, A_TABLE]),
+    (parting_tables, [EVENS, TABLE], [A_TABLE, A_TABLE]),
+    (agreeing_points, [EVENS, TABLE], [(errors.InvalidTable, NO_TABLE + [PAIR_TABLE])] * 2),
+    (is_amount, [1, ((0, 7), 1, 2)], [A_MANY]),
+    (amount_value, [((3, 1, 2), 4, 2), [10, 100]],
+     [(errors.InvalidAmount, no_amount(1) + [((0,) * 5, 0, 1), ((), 0, 1)]), A_PAIR]),
+    (Program, [LEADS.parts()], [(errors.InvalidProgram, NO_PARTS)]),
+    (run, [PROGRAM, "main", [3, 1]], [A_PROGRAM, A_NAME, A_PAIR]),
+    (run_length, [PROGRAM, "main", [BIG, 1]], [A_PROGRAM, A_NAME, A_PAIR]),
+    (run_letters, [PROGRAM, "main", [BIG, 1], "b"], [A_PROGRAM, A_NAME, A_PAIR, A_LETTER]),
+    (run_letter, [PROGRAM, "main", [3, 1], 3], [A_PROGRAM, A_NAME, A_PAIR, (NUMBER, NO_COUNT + [4, BIG])]),
+    (run_part, [PROGRAM, "main", [3, 1], 1, 3],
+     [A_PROGRAM, A_NAME, A_PAIR, (NUMBER, NO_COUNT + [5, BIG]), (NUMBER, NO_COUNT + [0, 5, BIG])]),
+    (part_grid, [PROGRAM, "main"], [A_PROGRAM, A_NAME]),
+    (compiled, [PROGRAM, "main"], [A_PROGRAM, A_NAME]),
+    (same_parts, [LEADS, "one", "other"], [A_PROGRAM, A_NAME, A_NAME]),
+    (parting_parts, [LEADS, "one", "row"], [A_PROGRAM, A_NAME, A_NAME]),
+    (program_of, [PAIR_TABLE], [A_TABLE]),
+    (is_step, [PROGRAM, 1, BODY, STEP], [A_PROGRAM, A_MANY, A_ROW]),
+    (stepped, [PROGRAM, 1, BODY, STEP], [A_PROGRAM, A_MANY, A_ROW, A_STEP]),
+    (derivation, [LEADS, "one", "other"], [A_PROGRAM, A_NAME, A_NAME]),
 ]

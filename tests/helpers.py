@@ -5,7 +5,10 @@ import time
 
 from openloops.automata import Automaton
 from openloops.grids import Grid
+from openloops.makers import Maker
 from openloops.pointsets import PointSet, all_points
+from openloops.programs import Program
+from openloops.tables import CaseTable
 from openloops.texts import OpenText
 
 BIG = 10 ** 29
@@ -28,26 +31,41 @@ TEXT = OpenText(1, [("ab", (1, 2))])
 GRID = Grid([(1, 2)])
 SET = all_points(1)
 AUTOMATON = Automaton("a", [[1, 0], [0, 1]], ends=[0])
+MAKER = Maker("a", [[(1, "", False), (0, "", True)], [(0, "x", False), (0, "a", True)]], closing=["", "a"])
+TABLE = CaseTable(Grid([(0, 2)]), [OpenText(1, [("ab", (0, 1))]), OpenText(1, [("a", (0, 1))])])
+PROGRAM = Program([("row", 1, [("times", ((0, 1), 0, 1), [("write", "ab")])]),
+                   ("main", 2, [("below", ((0, 1, 0), 0, 1), 2, [("write", "x")],
+                                 [("call", "row", [((0, 1, 1), 2, 1)])])])])
+OBJECTS = [TEXT, GRID, SET, AUTOMATON, MAKER, TABLE, PROGRAM]
 
-NO_COUNT = [None, True, False, "", "1", (1,), [1], {}, {1: 1}, -1, -BIG, DEEP, TEXT, GRID, SET, AUTOMATON]
+
+def all_but(thing):
+    """Return an object of each class of the package but for the class of a thing."""
+    return [other for other in OBJECTS if type(other) is not type(thing)]
+
+
+NO_COUNT = [None, True, False, "", "1", (1,), [1], {}, {1: 1}, -1, -BIG, DEEP] + OBJECTS
 NO_MANY = NO_COUNT + [4, 5, BIG]
 NO_FORM = [None, True, 1, "", "ab", [0, 7], (), (0, 0, 0, 0, 0), (-1,), (True,), (0, False), (0, "1"), (0, None),
-           (0, (1,)), {}, DEEP, DEEP_TUPLE, TEXT, GRID, SET, AUTOMATON]
-NO_WORD = [None, True, 0, 7, "A", "a b", "ab\n", "a1", "-", " ", ["a"], ("a",), {}, "a" * 20001, DEEP, TEXT, GRID,
-           SET, AUTOMATON]
+           (0, (1,)), {}, DEEP, DEEP_TUPLE] + OBJECTS
+NO_WORD = [None, True, 0, 7, "A", "a b", "ab\n", "a1", "-", " ", ["a"], ("a",), {}, "a" * 20001, DEEP] + OBJECTS
 NO_LETTER = NO_WORD + ["", "ab", "aa"]
-NO_TEXT = [None, True, 1, "ab", "", [("ab", (1, 2))], (1, [("ab", (1, 2))]), [], {}, DEEP, GRID, SET, AUTOMATON]
-NO_GRID = [None, True, 1, "", [(1, 2)], ((1, 2),), [], {}, DEEP, TEXT, SET, AUTOMATON]
-NO_SET = [None, True, 1, "", [[0]], [], (), {}, DEEP, TEXT, GRID, AUTOMATON]
-NO_AUTOMATON = [None, True, 1, "", "a", [[1, 0], [0, 1]], [], (), {}, DEEP, TEXT, GRID, SET]
+NO_TEXT = [None, True, 1, "ab", "", [("ab", (1, 2))], (1, [("ab", (1, 2))]), [], {}, DEEP] + all_but(TEXT)
+NO_GRID = [None, True, 1, "", [(1, 2)], ((1, 2),), [], {}, DEEP] + all_but(GRID)
+NO_SET = [None, True, 1, "", [[0]], [], (), {}, DEEP] + all_but(SET)
+NO_AUTOMATON = [None, True, 1, "", "a", [[1, 0], [0, 1]], [], (), {}, DEEP] + all_but(AUTOMATON)
+NO_MAKER = [None, True, 1, "", "a", [[(0, "", True)]], [], (), {}, DEEP] + all_but(MAKER)
+NO_TABLE = [None, True, 1, "", [(GRID, TEXT)], (GRID, [TEXT, TEXT]), [], (), {}, DEEP] + all_but(TABLE)
+NO_PROGRAM = [None, True, 1, "", "main", [], [("main", 0, [])], (), {}, DEEP] + all_but(PROGRAM)
+NO_NAME = [None, True, False, 0, 1, "", "ro", "rows", "Main", "main ", ["main"], ("main",), [], {}, {"main": 1},
+           DEEP] + OBJECTS
 
 
 def no_point(many):
     """Return values that are no point for as many unknowns, from 1 on."""
     zeros = [0] * many
     return [None, True, 0, "", "0" * many, tuple(zeros), [], zeros[1:], zeros + [0], zeros[1:] + [-1],
-            zeros[1:] + [True], zeros[1:] + [None], zeros[1:] + ["0"], [zeros] * many, {}, {0: 0}, DEEP,
-            TEXT, GRID, SET, AUTOMATON]
+            zeros[1:] + [True], zeros[1:] + [None], zeros[1:] + ["0"], [zeros] * many, {}, {0: 0}, DEEP] + OBJECTS
 
 
 def no_forms(many, how_many):
@@ -56,7 +74,25 @@ def no_forms(many, how_many):
     forms = [form] * how_many
     return [None, True, 0, "", form, tuple(forms), [], forms[1:], forms + [form], forms[1:] + [form + (0,)],
             forms[1:] + [form[1:]], forms[1:] + [list(form)], forms[1:] + [(True,) + form[1:]],
-            forms[1:] + [(-1,) + form[1:]], forms[1:] + [None], {}, DEEP, TEXT, GRID, SET, AUTOMATON]
+            forms[1:] + [(-1,) + form[1:]], forms[1:] + [None], {}, DEEP] + OBJECTS
+
+
+def no_amount(many):
+    """Return values that are no amount for as many unknowns, from 1 on."""
+    form = (0,) * (many + 1)
+    return [None, True, 1, "", form, (), {}, [form, 0, 1], (form, 0), (form, 0, 1, 1), (form, 0, 0), (form, 0, -1),
+            (form, -1, 1), (form, True, 1), (form, 0, True), (form, None, 1), (form, 0, None), (list(form), 0, 1),
+            ((True,) + form[1:], 0, 1), (form[1:] + (-1,), 0, 1), (None, 0, 1), ("0" * many, 0, 1), DEEP,
+            DEEP_TUPLE] + OBJECTS
+
+
+def no_amounts(many, how_many):
+    """Return values that are no list of so many amounts for `many` unknowns, from 1 amount on."""
+    form = (0,) * (many + 1)
+    amounts = [(form, 0, 1)] * how_many
+    unlike = [(form + (0,), 0, 1), (form[1:], 0, 1)] + no_amount(many)
+    return [None, True, 0, "", (form, 0, 1), tuple(amounts), [], amounts[1:], amounts + [(form, 0, 1)], {},
+            DEEP] + OBJECTS + [amounts[1:] + [bad] for bad in unlike]
 
 
 def cube(many, most):

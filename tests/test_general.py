@@ -6,10 +6,11 @@ import inspect
 import unittest
 
 from calls import CALLS
-from helpers import AUTOMATON, GRID, SET, TEXT, raised, same_list_twice, spoil
+from helpers import GRID, MAKER, OBJECTS, PROGRAM, TABLE, raised, same_list_twice, spoil
 from openloops.automata import Automaton
 from openloops.grids import Grid
 from openloops.pointsets import PointSet, all_points
+from openloops.programs import Program
 from openloops.texts import OpenText
 
 FUNCTIONS = {
@@ -33,6 +34,24 @@ FUNCTIONS = {
                     "point_in": "points, box, number", "each_point": "points, box"},
     "automata": {"moved": "automaton, word", "rounds": "automaton, word", "state_behind": "automaton, word",
                  "accepts": "automaton, word"},
+    "machines": {"parting_word": "one, other", "least_automaton": "automaton"},
+    "accepted": {"state_grid": "text, automaton", "state_sets": "text, automaton", "accepted": "text, automaton",
+                 "state_at": "text, automaton, point", "set_automaton": "points, letter"},
+    "makers": {"maker_states": "maker", "made_word": "maker, word"},
+    "making": {"parting_input": "one, other", "maker_behind": "one, other", "asked_behind": "maker, automaton"},
+    "maketables": {"made_table": "text, maker"},
+    "tableviews": {"text_at": "table, point", "table_written": "table, point", "table_length": "table, point",
+                   "table_letter": "table, point, at", "texts_on": "table, grid", "table_of": "text",
+                   "joined_tables": "one, other", "table_at": "table, many, amounts", "chosen": "points, one, other",
+                   "parting_tables": "one, other", "agreeing_points": "one, other"},
+    "programs": {"is_amount": "many, value", "amount_value": "amount, point"},
+    "running": {"run": "program, name, point", "run_length": "program, name, point",
+                "run_letters": "program, name, point, letter", "run_letter": "program, name, point, at",
+                "run_part": "program, name, point, low, high"},
+    "compiled": {"part_grid": "program, name", "compiled": "program, name", "same_parts": "program, one, other",
+                 "parting_parts": "program, one, other", "program_of": "table"},
+    "rewriting": {"is_step": "program, many, body, value", "stepped": "program, many, body, step"},
+    "derivations": {"derivation": "program, one, other"},
 }
 CLASSES = {
     "texts": {"OpenText": ("many, pieces", ["many", "pieces", "__eq__"])},
@@ -40,6 +59,9 @@ CLASSES = {
     "pointsets": {"PointSet": ("grid, points", ["many", "grid", "classes", "empty", "finite", "__contains__", "__eq__",
                                                 "__and__", "__or__", "__sub__"])},
     "automata": {"Automaton": ("letters, rows, *, start=0, ends", ["letters", "rows", "start", "ends", "__eq__"])},
+    "makers": {"Maker": ("letters, rows, *, start=0, closing", ["letters", "rows", "start", "closing", "__eq__"])},
+    "tables": {"CaseTable": ("grid, texts", ["many", "grid", "texts", "__eq__"])},
+    "programs": {"Program": ("parts", ["parts", "__eq__"])},
 }
 
 
@@ -140,8 +162,8 @@ class Lists(unittest.TestCase):
             self.assertEqual(result, kept, function.__name__)
 
     def test_methods_return_new_lists(self):
-        for made in [TEXT, GRID, SET, AUTOMATON]:
-            for name in ["pieces", "limits", "classes", "rows", "ends"]:
+        for made in OBJECTS:
+            for name in ["pieces", "limits", "classes", "rows", "ends", "closing", "texts", "parts"]:
                 if hasattr(made, name):
                     kept = copy.deepcopy(getattr(made, name)())
                     self.assertFalse(same_list_twice(kept))
@@ -156,7 +178,7 @@ class Lists(unittest.TestCase):
 class Equal(unittest.TestCase):
     def test_objects_are_equal_to_no_other_objects(self):
         made = [OpenText(1, []), OpenText(2, []), Grid([]), Grid([(0, 1)]), all_points(0), all_points(1),
-                Automaton("", [[0]], ends=[]), None, True, 0, "", [], (), {}]
+                Automaton("", [[0]], ends=[]), MAKER, TABLE, PROGRAM, Program([]), None, True, 0, "", [], (), {}]
         for at, one in enumerate(made):
             for place, other in enumerate(made):
                 self.assertEqual(one == other, at == place)

@@ -1,0 +1,50 @@
+"""Amounts: forms less a number, divided by a number and rounded down.
+
+A *want* is a tuple (amount, limit): the limits of a grid are wanted for which, in each of its classes,
+the values of the amount lie in one class of the limit, which is a tuple (threshold, period).
+"""
+
+from openloops.basics import is_count, is_whole
+from openloops.forms import form_value, form_with, has_form, is_plain, plain_form
+from openloops.pointviews import led_limit
+
+EVERY_COUNT = (0, 1)
+
+
+def has_amount(many, item):
+    """Tell whether an item is an amount for as many unknowns."""
+    if not isinstance(item, tuple) or len(item) != 3:
+        return False
+    form, less, by = item
+    return has_form(many, form) and is_count(less) and is_whole(by) and by >= 1
+
+
+def value_at(amount, point):
+    """Return the value of an amount at a point that fits."""
+    form, less, by = amount
+    return max(0, form_value(form, point) - less) // by
+
+
+def needed_limits(many, wants):
+    """Return the limits for as many unknowns that wants need, (0, 1) where nothing is needed."""
+    forms = [form for (form, _, _), _ in wants]
+    limits = [(less + by * limit[0], by * limit[1]) for (_, less, by), limit in wants]
+    return [led_limit(limits, forms, at) for at in range(many)]
+
+
+def amount_form(amount, many, forms):
+    """Return the form that an amount is where forms for `many` unknowns stand for its unknowns.
+
+    This holds in a class of a grid that has the limits that the amount needs.
+    """
+    form, less, by = amount
+    led = form_with(form, many, forms)
+    if is_plain(led):
+        return plain_form(many, max(0, led[0] - less) // by)
+    return ((led[0] - less) // by,) + tuple([number // by for number in led[1:]])
+
+
+def amount_led(amount, many, forms):
+    """Return an amount with forms for `many` unknowns in place of its unknowns."""
+    form, less, by = amount
+    return (form_with(form, many, forms), less, by)

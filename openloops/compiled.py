@@ -1,0 +1,141 @@
+"""Programs compiled to tables, programs compared, and the program of a table."""
+
+from openloops.amounts import EVERY_COUNT, amount_form, needed_limits
+from openloops.errors import OpenInOpen, TooMany, Unlike
+from openloops.forms import form_of_unknown, is_plain, plain_form
+from openloops.grids import Grid, classes, forms_of, meeting
+from openloops.pieces import measure, require_measure
+from openloops.programs import MOST_WEIGHT, Program, part_of, table_of_parts
+from openloops.rows import TESTS, all_statements, amounts_of, limit_of_test, outcome
+from openloops.tablegrids import even_grid
+from openloops.tables import CaseTable, require_table
+from openloops.tableviews import parting_tables
+from openloops.texts import OpenText, powers
+from openloops.writing import row_of_text, weight_of_row_of_text
+
+
+def part_grid(program, name):
+    """Return the grid of a part: in each of its classes each test has one outcome and each amount one form."""
+    part_of(program, name)
+    return Grid(limits_of_part(table_of_parts(program), name, {}))
+
+
+def compiled(program, name):
+    """Return the table that writes at each point what a part writes there."""
+    grid = part_grid(program, name)
+    # Asked for its errors, which come ahead of those of the reading.
+    even_grid(grid.limits())
+    many, body = part_of(program, name)
+    parts = table_of_parts(program)
+    return CaseTable(grid, [text_read(parts, body, (name, ()), many, forms_of(grid.limits(), point))
+                            for point in classes(grid)])
+
+
+def same_parts(program, one, other):
+    """Tell whether two parts write the same word at every point."""
+    return parting_parts(program, one, other) is None
+
+
+def parting_parts(program, one, other):
+    """Return the least point at which two parts write different words, None if there is none."""
+    many, _ = part_of(program, one)
+    if part_of(program, other)[0] != many:
+        raise Unlike(other)
+    table = compiled(program, one)
+    return parting_tables(table, compiled(program, other))
+
+
+def program_of(table):
+    """Return the program, of one part, that stands for all programs that write what a table writes."""
+    require_table(table)
+    grid = table.grid()
+    cases = [(point, text) for point, text in zip(classes(grid), table.texts()) if text.pieces() != []]
+    weight = sum([weight_of_tests(grid.limits(), point) + weight_of_row_of_text(text) for point, text in cases])
+    if weight > MOST_WEIGHT:
+        raise TooMany(weight)
+    body = []
+    for point, text in cases:
+        body.extend(row_in_tests(grid.limits(), point, row_of_text(text, grid.limits(), point)))
+    return Program([("main", grid.many(), body)])
+
+
+def limits_of_part(parts, name, known):
+    """Return the limits of the grid of a part, and put those of all parts that it calls into `known`."""
+    many, body = parts[name]
+    wants = []
+    for statement in all_statements(body):
+        if statement[0] == "call":
+            if statement[1] not in known:
+                known[statement[1]] = limits_of_part(parts, statement[1], known)
+            wants.extend(list(zip(statement[2], known[statement[1]])))
+        else:
+            limit = limit_of_test(statement) if statement[0] in TESTS else EVERY_COUNT
+            wants.extend([(amount, limit) for amount in amounts_of(statement)])
+    return needed_limits(many, wants)
+
+
+def text_read(parts, row, place, many, forms):
+    """Return the open text of a row where forms for `many` unknowns stand for its unknowns.
+
+    `place` is the name of the part and the path of the row. What each statement gives is a pair
+    of pieces and of how often they are given: written out they might be far too long.
+    """
+    given = [pieces_given(parts, statement, (place[0], place[1] + (at,)), many, forms)
+             for at, statement in enumerate(row)]
+    require_measure(sum([measure(pieces) * times for pieces, times in given]))
+    return OpenText(many, [piece for pieces, times in given for piece in pieces * times])
+
+
+def pieces_given(parts, statement, place, many, forms):
+    """Return the pieces that a statement gives, and how often."""
+    kind = statement[0]
+    if kind == "write":
+        return [(statement[1], plain_form(many, 1))], 1
+    if kind == "times":
+        return pieces_of_times(parts, statement, place, many, forms)
+    if kind in TESTS:
+        branch = outcome(statement, amount_form(statement[1], many, forms)[0])
+        inner = (place[0], place[1] + (branch,))
+        return text_read(parts, statement[-2 + branch], inner, many, forms).pieces(), 1
+    values = [amount_form(amount, many, forms) for amount in statement[2]]
+    return text_read(parts, parts[statement[1]][1], (statement[1], ()), many, values).pieces(), 1
+
+
+def pieces_of_times(parts, statement, place, many, forms):
+    """Return the pieces that a loop gives, and how often."""
+    form = amount_form(statement[1], many, forms)
+    if not any(form):
+        return [], 1
+    text = text_read(parts, statement[2], (place[0], place[1] + (0,)), many, forms)
+    pieces = text.pieces()
+    if pieces == []:
+        return [], 1
+    if is_plain(form):
+        return pieces, form[0]
+    if powers(text) != []:
+        raise OpenInOpen(place)
+    return [(pieces[0][0], form)], 1
+
+
+def row_in_tests(limits, point, row):
+    """Return a row that writes in one class what a row writes, and nothing in the others."""
+    many = len(limits)
+    for at in reversed(range(many)):
+        (threshold, period), count = limits[at], point[at]
+        amount = (form_of_unknown(many, at, 0, 1), 0, 1)
+        if count < threshold:
+            row = [("below", amount, count + 1, row, [])]
+            least = count
+        else:
+            row = row if period == 1 else [("leaves", amount, count % period, period, row, [])]
+            least = threshold
+        if least > 0:
+            row = [("below", amount, least, [], row)]
+    return row
+
+
+def weight_of_tests(limits, point):
+    """Return how many tests stand around the row of a class."""
+    alone = [1 if count < threshold or period > 1 else 0 for (threshold, period), count in zip(limits, point)]
+    behind = [1 if min(count, threshold) > 0 else 0 for (threshold, _), count in zip(limits, point)]
+    return sum(alone) + sum(behind)
