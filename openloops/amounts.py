@@ -38,13 +38,24 @@ def amount_form(amount, many, forms):
     This holds in a class of a grid that has the limits that the amount needs.
     """
     form, less, by = amount
-    led = form_with(form, many, forms)
-    if is_plain(led):
-        return plain_form(many, max(0, led[0] - less) // by)
-    return ((led[0] - less) // by,) + tuple([number // by for number in led[1:]])
+    return rounded(form_with(form, many, forms), less, by)
 
 
-def amount_led(amount, many, forms):
-    """Return an amount with forms for `many` unknowns in place of its unknowns."""
+def rounded(form, less, by):
+    """Return the form that a form less a number, divided by a number, is where it can be one."""
+    if is_plain(form):
+        return plain_form(len(form) - 1, max(0, form[0] - less) // by)
+    return tuple([(form[0] - less) // by] + [number // by for number in form[1:]])
+
+
+def amount_led(amount, limits, point):
+    """Return an amount with the places of a class, given by its least point, as unknowns."""
     form, less, by = amount
-    return (form_with(form, many, forms), less, by)
+    numbers = [number * limit[1] if count >= limit[0] else 0 for number, limit, count in zip(form[1:], limits, point)]
+    return (tuple([form_value(form, point)] + numbers), less, by)
+
+
+def form_led(amount, limits, point):
+    """Return the form that an amount is at the places of a class of a grid that has the limits that it needs."""
+    form, less, by = amount_led(amount, limits, point)
+    return rounded(form, less, by)

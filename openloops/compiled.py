@@ -3,7 +3,7 @@
 from openloops.amounts import EVERY_COUNT, amount_form, needed_limits
 from openloops.errors import OpenInOpen, TooMany, Unlike
 from openloops.forms import form_of_unknown, is_plain, plain_form
-from openloops.grids import Grid, classes, forms_of, meeting
+from openloops.grids import Grid, classes, forms_of
 from openloops.pieces import measure, require_measure
 from openloops.programs import MOST_WEIGHT, Program, part_of, table_of_parts
 from openloops.rows import TESTS, all_statements, amounts_of, limit_of_test, outcome

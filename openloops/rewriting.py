@@ -4,11 +4,11 @@ Whether a rule holds is looked at for a *way*: a tuple of the parts of the progr
 unknowns, and the tests, each with the outcome, through which a path leads.
 """
 
-from openloops.amounts import EVERY_COUNT, amount_form, amount_led, needed_limits, value_at
+from openloops.amounts import EVERY_COUNT, amount_form, amount_led, form_led, needed_limits, value_at
 from openloops.basics import is_count, require_many
 from openloops.errors import InvalidList, InvalidStep
 from openloops.forms import form_times, is_plain, sum_of_forms
-from openloops.grids import forms_of, points_of
+from openloops.grids import points_of
 from openloops.programs import require_program, table_of_parts
 from openloops.rows import TESTS, amounts_of, fresh, is_row, limit_of_test, outcome, rows_of
 
@@ -88,13 +88,11 @@ def each_case(way, wants):
     found = {}
     for point in points_of(limits):
         if all([outcome(test, value_at(test[1], point)) == branch for test, branch in tests]):
-            forms = forms_of(limits, point)
-            found[tuple([amount_led(amount, many, forms) for amount, _ in wants])] = True
+            found[tuple([amount_led(amount, limits, point) for amount, _ in wants])] = True
     for amounts in found:
         inner = needed_limits(many, [(amount, limit) for amount, (_, limit) in zip(amounts, wants)])
         for place in points_of(inner):
-            forms = forms_of(inner, place)
-            yield [amount_form(amount, many, forms) for amount in amounts]
+            yield [form_led(amount, inner, place) for amount in amounts]
 
 
 def is_spelled(way, first, second):
@@ -107,7 +105,9 @@ def is_spelled(way, first, second):
 def is_summed(way, first, second):
     """Tell whether two rows of loops with one body run it equally often."""
     loops = first + second
-    if not all([statement[0] == "times" and statement[2] == loops[0][2] for statement in loops]):
+    if not all([statement[0] == "times" for statement in loops]):
+        return False
+    if not all([statement[2] == loops[0][2] for statement in loops]):
         return False
     many, wants = way[1], [(statement[1], EVERY_COUNT) for statement in loops]
     for forms in each_case(way, wants):

@@ -4,9 +4,8 @@ All steps are taken behind tests through which just the points of the class come
 one outcome, and each amount is the value of one form at the place of the point.
 """
 
-from openloops.amounts import amount_form
+from openloops.amounts import amount_form, form_led
 from openloops.forms import form_times, is_plain, plain_form, sum_of_forms
-from openloops.grids import forms_of
 from openloops.rows import TESTS, outcome
 from openloops.words import common_end, root_of
 from openloops.writing import amount_of_form, row_of_word
@@ -170,7 +169,7 @@ class Settler:
 
     def _form(self, amount):
         """Return the form whose value at the place of each point is that of an amount."""
-        return amount_form(amount, self._many, forms_of(self._limits, self._point))
+        return form_led(amount, self._limits, self._point)
 
     def _amount(self, form):
         """Return the amount whose value at each point is that of a form at its place."""
