@@ -1,16 +1,16 @@
 """Programs compiled to tables, programs compared, and the program of a table."""
 
-from openloops.amounts import EVERY_COUNT, amount_form, needed_limits
-from openloops.errors import OpenInOpen, TooMany, Unlike
-from openloops.forms import form_of_unknown, is_plain, plain_form
+from openloops.amounts import EVERY_COUNT, needed_limits
+from openloops.errors import TooMany, Unlike
+from openloops.forms import form_of_unknown
 from openloops.grids import Grid, classes, forms_of
-from openloops.pieces import measure, require_measure
 from openloops.programs import MOST_WEIGHT, Program, part_of, table_of_parts
-from openloops.rows import TESTS, all_statements, amounts_of, limit_of_test, outcome
+from openloops.reading import Reader
+from openloops.rows import TESTS, all_statements, amounts_of, limit_of_test
 from openloops.tablegrids import even_grid
 from openloops.tables import CaseTable, require_table
 from openloops.tableviews import parting_tables
-from openloops.texts import OpenText, powers
+from openloops.texts import OpenText
 from openloops.writing import row_of_text, weight_of_row_of_text
 
 
@@ -26,9 +26,13 @@ def compiled(program, name):
     # Asked for its errors, which come ahead of those of the reading.
     even_grid(grid.limits())
     many, body = part_of(program, name)
-    parts = table_of_parts(program)
-    return CaseTable(grid, [text_read(parts, body, (name, ()), many, forms_of(grid.limits(), point))
-                            for point in classes(grid)])
+    reader, texts, kept = Reader(table_of_parts(program), many), [], {}
+    for point in classes(grid):
+        pieces, _ = reader.read(body, (name, ()), forms_of(grid.limits(), point))
+        if pieces not in kept:
+            kept[pieces] = OpenText(many, list(pieces))
+        texts.append(kept[pieces])
+    return CaseTable(grid, texts)
 
 
 def same_parts(program, one, other):
@@ -72,49 +76,6 @@ def limits_of_part(parts, name, known):
             limit = limit_of_test(statement) if statement[0] in TESTS else EVERY_COUNT
             wants.extend([(amount, limit) for amount in amounts_of(statement)])
     return needed_limits(many, wants)
-
-
-def text_read(parts, row, place, many, forms):
-    """Return the open text of a row where forms for `many` unknowns stand for its unknowns.
-
-    `place` is the name of the part and the path of the row. What each statement gives is a pair
-    of pieces and of how often they are given: written out they might be far too long.
-    """
-    given = [pieces_given(parts, statement, (place[0], place[1] + (at,)), many, forms)
-             for at, statement in enumerate(row)]
-    require_measure(sum([measure(pieces) * times for pieces, times in given]))
-    return OpenText(many, [piece for pieces, times in given for piece in pieces * times])
-
-
-def pieces_given(parts, statement, place, many, forms):
-    """Return the pieces that a statement gives, and how often."""
-    kind = statement[0]
-    if kind == "write":
-        return [(statement[1], plain_form(many, 1))], 1
-    if kind == "times":
-        return pieces_of_times(parts, statement, place, many, forms)
-    if kind in TESTS:
-        branch = outcome(statement, amount_form(statement[1], many, forms)[0])
-        inner = (place[0], place[1] + (branch,))
-        return text_read(parts, statement[-2 + branch], inner, many, forms).pieces(), 1
-    values = [amount_form(amount, many, forms) for amount in statement[2]]
-    return text_read(parts, parts[statement[1]][1], (statement[1], ()), many, values).pieces(), 1
-
-
-def pieces_of_times(parts, statement, place, many, forms):
-    """Return the pieces that a loop gives, and how often."""
-    form = amount_form(statement[1], many, forms)
-    if not any(form):
-        return [], 1
-    text = text_read(parts, statement[2], (place[0], place[1] + (0,)), many, forms)
-    pieces = text.pieces()
-    if pieces == []:
-        return [], 1
-    if is_plain(form):
-        return pieces, form[0]
-    if powers(text) != []:
-        raise OpenInOpen(place)
-    return [(pieces[0][0], form)], 1
 
 
 def row_in_tests(limits, point, row):

@@ -5,7 +5,7 @@ from openloops.errors import TooMany
 from openloops.forms import form_of_unknown
 from openloops.grids import classes, meeting
 from openloops.programs import table_of_parts
-from openloops.rows import fresh
+from openloops.rows import fresh_row
 from openloops.settling import Settler
 
 MOST_CASES = 12
@@ -24,10 +24,12 @@ def derivation(program, one, other):
     if parting is not None:
         return None
     parts = table_of_parts(program)
+    if parts[one][1] == parts[other][1]:
+        return []
     there = steps_to_cases(parts, grid.limits(), parts[one][1])
     back = steps_to_cases(parts, grid.limits(), parts[other][1])
     returning = [(rule, path, start, new, old) for rule, path, start, old, new in reversed(back)]
-    return fresh(there + returning)
+    return [(rule, path, start, fresh_row(old), fresh_row(new)) for rule, path, start, old, new in there + returning]
 
 
 def steps_to_cases(parts, limits, body):

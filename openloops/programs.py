@@ -3,7 +3,7 @@
 from openloops.amounts import has_amount, value_at
 from openloops.basics import MOST_UNKNOWNS, is_count_below, is_point, is_string_of_letters, require_many
 from openloops.errors import InvalidAmount, InvalidPoint, InvalidProgram, UnknownPart
-from openloops.rows import fresh, is_statement, rows_of
+from openloops.rows import fresh_row, is_statement, rows_of
 
 MOST_PARTS = 12
 LONGEST_NAME = 12
@@ -23,11 +23,11 @@ class Program:
             if told is None:
                 raise InvalidProgram(item)
             known[item[0]], many_of[item[0]] = told, item[1]
-        self._parts = fresh(parts)
+        self._parts = fresh_parts(parts)
 
     def parts(self):
         """Return the parts."""
-        return fresh(self._parts)
+        return fresh_parts(self._parts)
 
     def __eq__(self, other):
         return isinstance(other, Program) and self._parts == other._parts
@@ -73,6 +73,11 @@ def weight_and_depth(known, many_of, item):
                 return None
             rows.extend([(inner, depth + 1) for inner in rows_of(statement)])
     return weight, deepest
+
+
+def fresh_parts(parts):
+    """Return a list of parts with new lists in place of all lists within it."""
+    return [(name, many, fresh_row(body)) for name, many, body in parts]
 
 
 def is_name(value):

@@ -10,7 +10,7 @@ from openloops.errors import InvalidList, InvalidStep
 from openloops.forms import form_times, is_plain, sum_of_forms
 from openloops.grids import points_of
 from openloops.programs import require_program, table_of_parts
-from openloops.rows import TESTS, amounts_of, fresh, is_row, limit_of_test, outcome, rows_of
+from openloops.rows import TESTS, amounts_of, fresh_row, is_row, limit_of_test, outcome, rows_of
 
 
 def is_step(program, many, body, value):
@@ -32,8 +32,9 @@ def stepped(program, many, body, step):
     if not is_step(program, many, body, step):
         raise InvalidStep(step)
     _, path, start, old, new = step
-    result = fresh(body)
-    row_at(result, path)[0][start:start + len(old)] = fresh(new)
+    result = fresh_row(body)
+    row, _ = row_at(result, path)
+    row[start:start + len(old)] = fresh_row(new)
     return result
 
 

@@ -90,19 +90,24 @@ def all_statements(row):
     return found
 
 
-def fresh(value):
-    """Return a value with new lists in place of all lists within it."""
-    if isinstance(value, tuple):
-        items = []
-        for item in value:
-            items.append(fresh(item))
-        return tuple(items)
-    if isinstance(value, list):
-        items = []
-        for item in value:
-            items.append(fresh(item))
-        return items
-    return value
+def fresh_row(row):
+    """Return a row with new lists in place of all lists within it."""
+    found = []
+    for statement in row:
+        found.append(fresh_statement(statement))
+    return found
+
+
+def fresh_statement(statement):
+    """Return a statement with new lists in place of all lists within it."""
+    kind = statement[0]
+    if kind == "write":
+        return statement
+    if kind == "times":
+        return (kind, statement[1], fresh_row(statement[2]))
+    if kind == "call":
+        return (kind, statement[1], list(statement[2]))
+    return statement[:-2] + (fresh_row(statement[-2]), fresh_row(statement[-1]))
 
 
 def limit_of_test(statement):

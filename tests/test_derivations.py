@@ -45,7 +45,7 @@ class Derivations(unittest.TestCase):
         self.check(EXAMPLE, "one", "other")
         self.check(EXAMPLE, "other", "one")
         self.assertIsNone(derivation(EXAMPLE, "one", "third"))
-        self.check(EXAMPLE, "third", "third")
+        self.assertEqual(self.check(EXAMPLE, "third", "third"), [])
 
     def test_each_thing_that_bodies_may_differ_in(self):
         for one, other in [

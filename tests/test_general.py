@@ -74,6 +74,13 @@ class Interface(unittest.TestCase):
                 self.assertEqual(function.__module__, "openloops." + module)
                 self.assertEqual(str(inspect.signature(function)), f"({names})", name)
 
+    def test_all_of_them_stand_in_the_table_of_calls(self):
+        names = {(function.__module__, function.__name__) for function, _, _ in CALLS}
+        for module, table in FUNCTIONS.items():
+            for name in table:
+                if name not in ["each_class", "each_point"]:
+                    self.assertIn(("openloops." + module, name), names)
+
     def test_classes_define_their_methods_themselves(self):
         for module, table in CLASSES.items():
             for name, (names, methods) in table.items():
