@@ -5,10 +5,12 @@ from openloops.automata import rounds
 from openloops.forms import form_value, plain_form
 from openloops.grids import classes
 from openloops.makers import letters_of_parts, maker_states, parts_made, require_maker
-from openloops.pieces import require_measure
+from openloops.pieces import MOST_MEASURE, require_measure
 from openloops.tablegrids import even_grid
 from openloops.tables import CaseTable
 from openloops.texts import OpenText, require_text
+
+MOST_KEPT = 50000
 
 
 def made_table(text, maker):
@@ -18,10 +20,72 @@ def made_table(text, maker):
     grid = state_grid(text, maker_states(maker))
     # Asked for its errors, which come ahead of those of the texts.
     even_grid(grid.limits())
-    words = {word: True for word, _ in text.pieces()}
-    book = {word: passes_of(maker, word) for word in words}
-    texts = [made_text(text, maker, book, grid.limits(), point) for point in classes(grid)]
-    return CaseTable(grid, texts)
+    scribe = Scribe(text, maker, grid.limits())
+    return CaseTable(grid, [scribe.text_in_class(point) for point in classes(grid)])
+
+
+class Scribe:
+    """Tells what a maker writes of an open text in the classes of a grid.
+
+    Pieces are alike in many places and classes, so what has been told of one is kept.
+    """
+
+    def __init__(self, text, maker, limits):
+        self._many = text.many()
+        self._pieces = text.pieces()
+        self._start = maker.start()
+        self._closing = maker.closing()
+        self._limits = limits
+        words = {word: True for word, _ in self._pieces}
+        self._book = {word: passes_of(maker, word) for word in words}
+        self._kept = {}
+        self._texts = {}
+
+    def text_in_class(self, point):
+        """Return the open text of what is written at the places of a class: first it is told how long all of it is."""
+        forms = {form: True for _, form in self._pieces}
+        turns = {form: (form_value(form, point), going_numbers(form, self._limits, point)) for form in forms}
+        state, pieces, letters = self._start, [], 0
+        for word, form in self._pieces:
+            state, given, more = self._told(word, state, turns[form])
+            pieces.extend(given)
+            letters += more
+        closing = self._closing[state]
+        require_measure(letters + len(closing))
+        return self._text(tuple(pieces + [(closing, plain_form(self._many, 1))]))
+
+    def _text(self, pieces):
+        """Return the open text of pieces."""
+        if pieces not in self._texts:
+            self._texts[pieces] = OpenText(self._many, list(pieces))
+        return self._texts[pieces]
+
+    def _told(self, word, state, turns):
+        """Return what is told of a piece of the text that is read in a state.
+
+        This is a tuple: the state behind it, the pieces that it gives, and their measure.
+        """
+        key = (word, state, turns)
+        if key not in self._kept:
+            if len(self._kept) >= MOST_KEPT:
+                self._kept = {}
+            self._kept[key] = self._worked_out(word, state, turns)
+        return self._kept[key]
+
+    def _worked_out(self, word, state, turns):
+        """Return what is told of a piece, for how often its word is read, and how often more at the next place."""
+        times, going = turns
+        period, rows = self._book[word]
+        state, trip = trip_from(rows, state, times)
+        trips = [(trip, plain_form(self._many, 1))]
+        if any(going):
+            trips.append((trip_from(rows, state, period)[1], tuple([number // period for number in going])))
+        letters = sum([letters_of_trip(rows, trip) for trip, _ in trips])
+        if letters > MOST_MEASURE:
+            # It will be refused, so it is not written out, however long it is.
+            return state, [], letters
+        pieces = [(word_of_trip(rows, trip), form) for trip, form in trips]
+        return state, [(word, form) for word, form in pieces if word != ""], letters
 
 
 def passes_of(maker, word):
@@ -35,24 +99,6 @@ def passes_of(maker, word):
         reached, parts = parts_made(maker, state, word)
         rows.append((reached, parts, letters_of_parts(parts)))
     return rounds(maker_states(maker), word)[1], rows
-
-
-def made_text(text, maker, book, limits, point):
-    """Return the open text of what a maker writes in a class: first it is told how long all of it is."""
-    many, state, trips = text.many(), maker.start(), []
-    values = {form: form_value(form, point) for _, form in text.pieces()}
-    for word, form in text.pieces():
-        period, rows = book[word]
-        state, trip = trip_from(rows, state, values[form])
-        trips.append((rows, trip, plain_form(many, 1)))
-        going = going_form(form, limits, point, period)
-        if any(going):
-            trips.append((rows, trip_from(rows, state, period)[1], going))
-    closing = maker.closing()[state]
-    require_measure(len(closing) + sum([letters_of_trip(rows, trip) for rows, trip, _ in trips]))
-    pieces = [(word_of_trip(rows, trip), form) for rows, trip, form in trips]
-    pieces = [(word, form) for word, form in pieces if word != ""]
-    return OpenText(many, pieces + [(closing, plain_form(many, 1))])
 
 
 def trip_from(rows, state, times):
@@ -88,8 +134,7 @@ def word_of_trip(rows, trip):
     return "".join(words)
 
 
-def going_form(form, limits, point, period):
-    """Return how often a word is read `period` times more, at the place of a point in its class."""
-    numbers = [number * limit[1] // period if count >= limit[0] else 0
-               for number, limit, count in zip(form[1:], limits, point)]
+def going_numbers(form, limits, point):
+    """Return a form for how much oftener a word is read at the next place of each unknown in which a class goes on."""
+    numbers = [number * limit[1] if count >= limit[0] else 0 for number, limit, count in zip(form[1:], limits, point)]
     return tuple([0] + numbers)
