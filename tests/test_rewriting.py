@@ -14,7 +14,7 @@ A, B, AB = ("write", "a"), ("write", "b"), ("write", "ab")
 ZERO = ((0, 0), 0, 1)
 EMPTY = Program([])
 RULES = ["spell", "sum", "unroll", "nest", "turn", "either", "held", "call"]
-MOST = [0, 13, 5]
+MOST = [0, 20, 13]
 
 
 def constant(number, many=1):

@@ -235,7 +235,7 @@ class Parting(unittest.TestCase):
             many = turn % 4
             one = random_table(chance, many)
             other = random_table(chance, many) if chance.random() < 0.3 else changed_table(chance, one)
-            points = by_sum(many, [0, 20, 10, 8][many])
+            points = by_sum(many, [0, 20, 12, 11][many])
             wanted = next((point for point in points if table_written(one, point) != table_written(other, point)), None)
             self.assertEqual(parting_tables(one, other), wanted)
             self.assertIs(one == other, wanted is None)
