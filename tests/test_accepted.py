@@ -6,7 +6,7 @@ import unittest
 from helpers import BIG, GREATEST, SECONDS, SET, TEXT, cube, plain_word, raised, random_set, seconds
 from openloops.accepted import accepted, set_automaton, state_at, state_grid, state_sets
 from openloops.automata import Automaton, accepts, rounds, state_behind
-from openloops.errors import InvalidSet, TooMany
+from openloops.errors import InvalidAutomaton, InvalidSet, TooMany
 from openloops.grids import Grid, class_of
 from openloops.machines import least_automaton
 from openloops.pointsets import PointSet, no_points, one_point, points_from, points_leaving
@@ -67,6 +67,11 @@ class Texts(unittest.TestCase):
             error = raised(lambda: function(OpenText(3, [("q", (0, 1, 1, 1))]), cycles))
             self.assertEqual((type(error), error.value), (TooMany, 216000))
         self.assertEqual(state_at(text, cycles, [BIG, BIG, BIG]), 37 * BIG % 3)
+
+    def test_errors_of_texts_without_powers(self):
+        for text in [OpenText(0, []), OpenText(2, []), OpenText(1, [("ab", (1, 0))])]:
+            for function, rest in [(state_grid, []), (state_sets, []), (accepted, []), (state_at, [None])]:
+                self.assertIs(type(raised(lambda: function(text, None, *rest))), InvalidAutomaton)
 
     def test_great_counts(self):
         text = OpenText(2, [("ab", (7, BIG, 3)), ("c", (1, 0, 0)), ("ba", (0, GREATEST, BIG))])

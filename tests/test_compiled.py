@@ -12,7 +12,7 @@ from openloops.programs import Program
 from openloops.running import run, run_length
 from openloops.tables import CaseTable
 from openloops.tableviews import table_written
-from openloops.texts import OpenText
+from openloops.texts import OpenText, joined
 from test_tables import random_cases
 from walking import M, N, plain_amount, random_amount, random_program, walk_part
 
@@ -189,6 +189,9 @@ class Compiled(unittest.TestCase):
         body = [("leaves", N_OF_TWO, 0, 20, [A], []), ("below", M, 22, [A], [])]
         error = raised(lambda: compiled(one(2, body), "main"))
         self.assertEqual([part_grid(one(2, body), "main").limits(), type(error), error.value], [[(0, 20), (22, 1)], TooMany, 42 * 23])
+        # This comes ahead of what the reading of a class raises.
+        error = raised(lambda: compiled(one(2, body + [A] * 2001), "main"))
+        self.assertEqual((type(error), error.value), (TooMany, 42 * 23))
         program = one(2, [("times", N_OF_TWO, primitive(600)), ("below", M, 3, [A], [])])
         error = raised(lambda: compiled(program, "main"))
         self.assertEqual((type(error), error.value), (TooLong, 2401))
@@ -289,8 +292,21 @@ class Programs(unittest.TestCase):
         self.assertEqual(table.grid().limits(), [(0, 2)])
         error = raised(lambda: program_of(table))
         self.assertEqual((type(error), error.value), (TooMany, 2 * 833 * 3 + 1 + 2))
-        table = CaseTable(Grid([(0, 2)]), [alternating(832, [("e", (1, 0))]), alternating(833, [("d", (1, 0))])])
+        other = OpenText(1, [("c", (1, 0)), ("b", (0, 1))] * 833)
+        table = CaseTable(Grid([(0, 2)]), [left, other])
+        self.assertEqual(table.grid().limits(), [(0, 2)])
+        # The two tests of the classes bring it to just 5000.
         self.assertEqual(program_of(table).parts()[0][0], "main")
+        # Eight tests of classes: one each for the counts 0 and from 4 on, two each for those between.
+        texts = [OpenText(2, [(letter, (1, 0, 0)), ("b", (0, 0, 1))] * 332) for letter in "acdef"]
+        more = OpenText(2, [("g", (1, 0, 0)), ("h", (0, 0, 1))])
+        texts = [joined(text, more) for text in texts[:4]] + texts[4:]
+        table = CaseTable(Grid([(4, 1), (0, 1)]), texts)
+        self.assertEqual(table.grid().limits(), [(4, 1), (0, 1)])
+        self.assertEqual(run(program_of(table), "main", [4, 0]), "f" * 332)
+        texts[4] = joined(texts[4], OpenText(2, [("g", (1, 0, 0))]))
+        error = raised(lambda: program_of(CaseTable(Grid([(4, 1), (0, 1)]), texts)))
+        self.assertEqual((type(error), error.value), (TooMany, 5 * 332 * 3 + 4 * 3 + 1 + 8))
         error = raised(lambda: program_of(CaseTable(Grid([(1, 2)]), [OpenText(1, []), alternating(832, [("e", (1, 0))]), alternating(833, [("d", (1, 0))])])))
         self.assertEqual((type(error), error.value), (TooMany, 832 * 3 + 1 + 833 * 3 + 1 + 4))
         three = OpenText(3, [("a", (0, 1, 1, 1)), ("b", (0, 1, 1, 1))] * 1000)

@@ -49,7 +49,8 @@ class Derivations(unittest.TestCase):
 
     def test_each_thing_that_bodies_may_differ_in(self):
         for one, other in [
-                ([], []), ([AB], [A, B]), ([A] * 45, [("write", "a" * 40), ("write", "a" * 5)]), ([("times", constant(3), [A])], [A] * 3), ([("times", N, [])], []),
+                ([], []), ([AB], [A, B]), ([("times", N, [A]), B, ("times", N, [A]), A], [("times", N, [A]), B, A, ("times", N, [A])]),
+                ([("times", N, [A]), B, A, ("times", N, [A])], [("times", N, [A]), ("write", "ba"), ("times", ((0, 2), 0, 2), [A])]), ([A] * 45, [("write", "a" * 40), ("write", "a" * 5)]), ([("times", constant(3), [A])], [A] * 3), ([("times", N, [])], []),
                 ([("times", N, [("times", N, [])])], []), ([("times", constant(BIG), [])], []), ([("times", constant(0), [("times", N, [("times", N, [A])])])], []),
                 ([("times", N, [A]), ("times", N, [A])], [("times", ((0, 2), 0, 1), [A])]), ([("times", N, [A, A, A])], [("times", ((0, 3), 0, 1), [A])]),
                 ([("times", ((2, 3), 0, 1), [AB])], [AB, ("times", ((0, 3), 0, 1), [AB]), A, B]), ([B, A, B, ("times", N, [A, B]), A], [("times", N, [("write", "ba")]), ("write", "baba")]),

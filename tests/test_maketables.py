@@ -3,7 +3,7 @@
 import random
 import unittest
 
-from helpers import BIG, MAKER, SECONDS, cube, plain_word, raised, seconds
+from helpers import BIG, GREATEST, MAKER, SECONDS, cube, plain_word, raised, seconds
 from openloops.accepted import accepted, state_grid
 from openloops.automata import Automaton, accepts
 from openloops.errors import TooLong, TooMany
@@ -117,6 +117,17 @@ class Tables(unittest.TestCase):
         self.assertEqual(state_grid(text, maker_states(tail)).limits(), [(10, 1), (1, 1), (5, 1)])
         error = raised(lambda: made_table(text, tail))
         self.assertEqual((type(error), error.value), (TooMany, 11 ** 3))
+
+    def test_too_many_classes_ahead_of_too_long(self):
+        tail = Maker("", [[(min(state + 1, 10), "a" * 2000, True)] for state in range(11)], closing=[""] * 11)
+        error = raised(lambda: made_table(OpenText(3, [("q", (0, 1, 10, 2))]), tail))
+        self.assertEqual((type(error), error.value), (TooMany, 11 ** 3))
+
+    def test_measures_of_great_numbers(self):
+        swing = Maker("", [[(1, "", True)], [(0, "x", False)]], closing=["", "yy"])
+        error = raised(lambda: made_table(OpenText(1, [("abc", (0, GREATEST))]), swing))
+        # In the class of 1 the word is read so often that just as many letters are written, and six more at each place.
+        self.assertEqual((type(error), error.value), (TooLong, 3 * GREATEST + 6 + 2))
 
     def test_at_the_limits(self):
         cycles = Maker("", [[(state, "", state == 0)] for state in [1, 2, 0, 4, 5, 6, 3, 8, 9, 10, 11, 7]], closing=["z"] * 12)

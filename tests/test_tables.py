@@ -201,6 +201,13 @@ class Least(unittest.TestCase):
         texts = [OpenText(1, []), OpenText(1, [("a", (1, 1))]), OpenText(1, [("b", (2, 1))])]
         self.assertEqual(CaseTable(Grid([(1, 2)]), texts).grid().limits(), [(1, 2)])
 
+    def test_texts_with_the_greatest_measure(self):
+        word = "c" * 999 + "d"
+        table = CaseTable(Grid([(0, 2)]), [OpenText(1, [(word, (0, 2))]), OpenText(1, [(word, (1, 2))])])
+        self.assertEqual((table.grid().limits(), table.texts()), ([(0, 1)], [OpenText(1, [(word, (0, 1))])]))
+        table = CaseTable(Grid([(1, 1)]), [OpenText(1, []), OpenText(1, [(word, (1, 1))])])
+        self.assertEqual((table.grid().limits(), table.texts()), ([(0, 1)], [OpenText(1, [(word, (0, 1))])]))
+
     def test_what_moves_over_the_border_of_powers(self):
         text = OpenText(1, [("ab", (0, 1)), ("aba", (0, 1)), ("c", (2, 0)), ("ca", (0, 2))])
         for limits in [[(4, 1)], [(0, 3)], [(3, 2)], [(7, 4)]]:

@@ -209,7 +209,7 @@ class Together(unittest.TestCase):
         self.assertEqual((type(error), error.value), (TooLong, 3000))
 
     def test_wrong_arguments(self):
-        two = table_of(OpenText(2, []))
+        none, two = table_of(OpenText(0, [])), table_of(OpenText(2, []))
         for call, kind, thing in [
                 (lambda: joined_tables(EVENS, two), Unlike, two), (lambda: parting_tables(two, EVENS), Unlike, EVENS),
                 (lambda: chosen(all_points(1), two, EVENS), Unlike, two), (lambda: chosen(all_points(1), EVENS, two), Unlike, two),
@@ -218,6 +218,7 @@ class Together(unittest.TestCase):
                 (lambda: table_at(EVENS, True, None), InvalidNumber, True), (lambda: table_at(EVENS, 1, []), InvalidList, []),
                 (lambda: table_at(EVENS, 1, [((0, 1, 1), 0, 1)]), InvalidList, [((0, 1, 1), 0, 1)]),
                 (lambda: table_at(EVENS, 1, (((0, 1), 0, 1),)), InvalidList, (((0, 1), 0, 1),)),
+                (lambda: agreeing_points(EVENS, none), Unlike, none), (lambda: agreeing_points(none, EVENS), Unlike, EVENS),
                 (lambda: agreeing_points(two, None), InvalidTable, two), (lambda: agreeing_points(EVENS, two), InvalidTable, two),
                 (lambda: text_at(EVENS, (1,)), InvalidPoint, (1,)), (lambda: table_letter(EVENS, [True], None), InvalidPoint, [True])]:
             error = raised(call)
