@@ -82,11 +82,10 @@ class Settler:
         return at
 
     def _drop_loop(self, path, row, at):
-        """Take away a loop with an empty body: it is one with a loop in it that never runs."""
+        """Bring a loop with an empty body to one that never runs: one that never runs can as well stand in it."""
         never = ("times", (self._constant(0), 0, 1), [])
         self._swap_in_loop("unroll", path, row, at, [never])
         self._swap("nest", path, row, at, 1, [never])
-        self._swap("unroll", path, row, at, 1, [])
 
     def _root_loop(self, path, row, at, word, form):
         """Bring a loop to the shortest word of which its word is made; return its form then, and this word."""
@@ -100,7 +99,10 @@ class Settler:
         return form, root
 
     def _take_power(self, path, row, done, at, root, form):
-        """Settle a loop of a word: what is fixed ahead of it passes it as far as it can, as does its constant."""
+        """Settle a loop of a word: what is fixed ahead of it passes it as far as it can, as does its constant.
+
+        What has passed it is left to be settled behind it.
+        """
         fixed = done.pop()[0] if done != [] and is_plain(done[-1][1]) else ""
         passing = common_end(fixed, root)
         staying, full, rest = fixed[:len(fixed) - passing], passing // len(root), passing % len(root)
@@ -113,8 +115,6 @@ class Settler:
         power, left = (0,) + form[1:], full + form[0]
         new = [self._loop(power, root)] + ([self._turns(left, root)] if left > 0 else [])
         self._swap("sum", path, row, at, 1 if full == 0 else 2, new)
-        if left > 0:
-            self._swap("unroll", path, row, at + 1, 1, body * left)
         if rest > 0:
             at = at - len(tail)
             root = self._turn_loop(path, row, at, root, rest)

@@ -102,7 +102,8 @@ class Rules(unittest.TestCase):
                 ([A, B, loop(N, AB, A, B)], [loop(N, A, B, AB), A, B], True), ([A, B, loop(N, B)], [loop(N, B), A, B], False), ([loop(N, A)], [loop(N, A)], True),
                 ([A, loop(N, B, A)], [loop(((0, 2), 0, 2), A, B), A], False), ([A, loop(N, B, A)], [loop(N, A, B), B], False), ([loop(N, A), loop(N, loop(N, A))],
                                                                                                                            [loop(N, loop(N, A)), loop(N, A)], True),
-                ([A, loop(N)], [loop(N), A], False), ([A, A, loop(N, A)], [loop(N, A), A, A], False), ([AB, loop(N, AB)], [loop(N, A, B), AB], False), ([], [], False)]:
+                ([A, loop(N)], [loop(N), A], False), ([A, loop(N, B, A)], [loop(N, B, B), A], False), ([A, loop(N, B, B)], [loop(N, A, B), A], False),
+                ([A, loop(N, B, A)], [loop(N, A, AB), A], False), ([A, A, loop(N, A)], [loop(N, A), A, A], False), ([AB, loop(N, AB)], [loop(N, A, B), AB], False), ([], [], False)]:
             self.check("turn", old, new, wanted)
 
     def test_either(self):
