@@ -48,6 +48,21 @@ def rounded(form, less, by):
     return tuple([(form[0] - less) // by] + [number // by for number in form[1:]])
 
 
+def amount_behind(amount, many, amounts):
+    """Return the amount that has the value of an amount at the values of amounts for `many` unknowns.
+
+    None is returned unless it can be told at once: there may be such an amount all the same.
+    """
+    form, less, by = amount
+    standing = [mate for number, mate in zip(form[1:], amounts) if number > 0]
+    if all([mate[1:] == (0, 1) for mate in standing]):
+        return (form_with(form, many, [mate[0] for mate in amounts]), less, by)
+    if sum(form) == 1 and form[0] == 0:
+        inner, taken, divided = standing[0]
+        return (inner, taken + divided * less, divided * by)
+    return None
+
+
 def amount_led(amount, limits, point):
     """Return an amount with the places of a class, given by its least point, as unknowns."""
     form, less, by = amount

@@ -4,7 +4,7 @@ Whether a rule holds is looked at for a *way*: a tuple of the parts of the progr
 unknowns, and the tests, each with the outcome, through which a path leads.
 """
 
-from openloops.amounts import EVERY_COUNT, amount_form, amount_led, form_led, needed_limits, value_at
+from openloops.amounts import EVERY_COUNT, amount_behind, amount_form, amount_led, form_led, needed_limits, value_at
 from openloops.basics import is_count, require_many
 from openloops.errors import InvalidList, InvalidStep
 from openloops.forms import form_times, is_plain, sum_of_forms
@@ -191,8 +191,8 @@ def is_called(way, first, second):
     pairs = pairs_of_amounts(body, second)
     if pairs is None:
         return False
-    alike = {pair: True for pair in pairs}
-    return all([is_amount_behind(way, amounts, many, inner, outer) for inner, outer in alike])
+    unlike = {pair: True for pair in pairs if amount_behind(pair[0], way[1], amounts) != pair[1]}
+    return all([is_amount_behind(way, amounts, many, inner, outer) for inner, outer in unlike])
 
 
 RULES = {"spell": is_spelled, "sum": is_summed, "unroll": is_unrolled, "nest": is_nested, "turn": is_turned,

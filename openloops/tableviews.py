@@ -216,17 +216,31 @@ def parting_in_class(forms, one, other, best):
         place = [counts[going.index(at)] if at in going else 0 for at in range(len(forms))]
         point = [form_value(form, place) for form in forms]
         rows.append((sum(point), point, place))
+    pieces, rivals = unlike_middles(one, other)
     for total, point, place in sorted(rows):
         if best is not None and (total, point) > best:
             return best
-        if not same_runs(runs_at(one, place), runs_at(other, place)):
+        if not same_runs(runs_at(pieces, place), runs_at(rivals, place)):
             return (total, point)
     return best
 
 
+def unlike_middles(one, other):
+    """Return what is left of two lists of pieces without those that are alike at both ends.
+
+    At each point the whole lists write the same word just if what is left of them does.
+    """
+    both, front, end = min(len(one), len(other)), 0, 0
+    while front < both and one[front] == other[front]:
+        front += 1
+    while end < both - front and one[-1 - end] == other[-1 - end]:
+        end += 1
+    return one[front:len(one) - end], other[front:len(other) - end]
+
+
 def agreeing_in_class(forms, one, other):
     """Return the points of a class at which two texts for its places, which are not equal, write the same word."""
-    pieces, rivals = one.pieces(), other.pieces()
+    pieces, rivals = unlike_middles(one.pieces(), other.pieces())
     most = max(size(one), size(other)) if any([not is_plain(form) for form in forms]) else 0
     places = [[number for _ in forms] for number in range(most + 1)]
     return [[form_value(form, place) for form in forms] for place in places

@@ -48,7 +48,9 @@ def same_runs(one, other):
         word, times = one[first]
         mate, often = other[second]
         both = min(len(word) * times - ahead, len(mate) * often - behind)
-        if not same_stretch(word, ahead, mate, behind, both):
+        # Where both are at the same letter of the same word, nothing needs to be put together.
+        same = word == mate and (ahead - behind) % len(word) == 0
+        if not same and not same_stretch(word, ahead, mate, behind, both):
             return False
         ahead, behind = ahead + both, behind + both
         if ahead == len(word) * times:
