@@ -79,7 +79,11 @@ def accepts(automaton, word):
 
 def turns_by(automaton, word):
     """Return the rounds of a word and, for each number of times below their end, where it leads each state."""
-    step = moved(automaton, word)
+    return turns_of_step(moved(automaton, word))
+
+
+def turns_of_step(step):
+    """Return what `turns_by` does, for the list of the states to which a word leads each state."""
     states, seen = list(range(len(step))), []
     while states not in seen:
         seen.append(states)

@@ -17,7 +17,7 @@ from openloops.writing import row_of_text, weight_of_row_of_text
 def part_grid(program, name):
     """Return the grid of a part: in each of its classes each test has one outcome and each amount one form."""
     part_of(program, name)
-    return Grid(limits_of_part(table_of_parts(program), name, {}))
+    return Grid(limits_of_part(table_of_parts(program), name, EVERY_COUNT, {}))
 
 
 def compiled(program, name):
@@ -63,17 +63,20 @@ def program_of(table):
     return Program([("main", grid.many(), body)])
 
 
-def limits_of_part(parts, name, known):
-    """Return the limits of the grid of a part, and put those of all parts that it calls into `known`."""
+def limits_of_part(parts, name, of_loop, known):
+    """Return the limits of the grid of a part, and put those of all parts that it calls into `known`.
+
+    `of_loop` is the limit for which the amounts of loops need limits.
+    """
     many, body = parts[name]
     wants = []
     for statement in all_statements(body):
         if statement[0] == "call":
             if statement[1] not in known:
-                known[statement[1]] = limits_of_part(parts, statement[1], known)
+                known[statement[1]] = limits_of_part(parts, statement[1], of_loop, known)
             wants.extend(list(zip(statement[2], known[statement[1]])))
         else:
-            limit = limit_of_test(statement) if statement[0] in TESTS else EVERY_COUNT
+            limit = limit_of_test(statement) if statement[0] in TESTS else of_loop
             wants.extend([(amount, limit) for amount in amounts_of(statement)])
     return needed_limits(many, wants)
 

@@ -142,6 +142,14 @@ def class_count(limit, count):
     return threshold + (count - threshold) % period
 
 
+def class_number(limits, point):
+    """Return the number, in order, of the class in which a point lies."""
+    number = 0
+    for limit, count in zip(limits, point):
+        number = number * (limit[0] + limit[1]) + class_count(limit, count)
+    return number
+
+
 def turns_of(limit, count):
     """Return how often the period has been added to the least count that goes with a count."""
     return (count - class_count(limit, count)) // limit[1]

@@ -9,6 +9,7 @@ from openloops.basics import is_count, require_many
 from openloops.errors import InvalidList, InvalidStep
 from openloops.forms import form_times, is_plain, sum_of_forms
 from openloops.grids import points_of
+from openloops.places import is_path, row_at
 from openloops.programs import require_program, table_of_parts
 from openloops.rows import TESTS, amounts_of, fresh_row, is_row, limit_of_test, outcome, rows_of
 
@@ -60,22 +61,9 @@ def is_shape_of_step(parts, many, value):
     rule, path, start, old, new = value
     if not isinstance(rule, str) or rule not in RULES or not is_count(start):
         return False
-    if not isinstance(path, tuple) or len(path) % 2 > 0 or not all([is_count(number) for number in path]):
+    if not is_path(path) or len(path) % 2 > 0:
         return False
     return is_row(many, unknowns_of(parts), old) and is_row(many, unknowns_of(parts), new)
-
-
-def row_at(body, path):
-    """Return the row that a path names and the tests on the way, each with its outcome; None if there is none."""
-    row, tests = body, []
-    for at in range(0, len(path), 2):
-        number, branch = path[at], path[at + 1]
-        if number >= len(row) or branch >= len(rows_of(row[number])):
-            return None
-        if row[number][0] in TESTS:
-            tests.append((row[number], branch))
-        row = rows_of(row[number])[branch]
-    return row, tests
 
 
 def each_case(way, wants):

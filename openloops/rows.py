@@ -57,6 +57,11 @@ def rows_of(statement):
     return list(statement[-2:]) if statement[0] in TESTS else []
 
 
+def with_rows(statement, rows):
+    """Return a statement with other rows in place of those that stand in it."""
+    return statement[:len(statement) - len(rows)] + tuple(rows)
+
+
 def amounts_of(statement):
     """Return the amounts of a statement, without those in its rows."""
     if statement[0] == "write":

@@ -177,7 +177,11 @@ def text_at_amounts(texts, limits, amounts, forms):
     `limits` are those of the grid of the table.
     """
     many = len(forms)
-    values = [amount_form(amount, many, forms) for amount in amounts]
+    return text_at_forms(texts, limits, many, [amount_form(amount, many, forms) for amount in amounts])
+
+
+def text_at_forms(texts, limits, many, values):
+    """Return what a table writes at the values of forms for `many` unknowns, all of which lie in one of its classes."""
     row = [class_count(limit, value[0]) for limit, value in zip(limits, values)]
     places = [tuple([(number - (count if at == 0 else 0)) // limit[1] for at, number in enumerate(value)])
               for limit, value, count in zip(limits, values, row)]
