@@ -10,6 +10,7 @@ from openloops.pointsets import PointSet, all_points
 from openloops.programs import Program
 from openloops.tables import CaseTable
 from openloops.texts import OpenText
+from openloops.workshop import Workshop
 
 BIG = 10 ** 29
 GREATEST = 10 ** 30 - 1
@@ -36,7 +37,8 @@ TABLE = CaseTable(Grid([(0, 2)]), [OpenText(1, [("ab", (0, 1))]), OpenText(1, [(
 PROGRAM = Program([("row", 1, [("times", ((0, 1), 0, 1), [("write", "ab")])]),
                    ("main", 2, [("below", ((0, 1, 0), 0, 1), 2, [("write", "x")],
                                  [("call", "row", [((0, 1, 1), 2, 1)])])])])
-OBJECTS = [TEXT, GRID, SET, AUTOMATON, MAKER, TABLE, PROGRAM]
+WORKSHOP = Workshop(PROGRAM)
+OBJECTS = [TEXT, GRID, SET, AUTOMATON, MAKER, TABLE, PROGRAM, WORKSHOP]
 
 
 def all_but(thing):
@@ -57,6 +59,7 @@ NO_AUTOMATON = [None, True, 1, "", "a", [[1, 0], [0, 1]], [], (), {}, DEEP] + al
 NO_MAKER = [None, True, 1, "", "a", [[(0, "", True)]], [], (), {}, DEEP] + all_but(MAKER)
 NO_TABLE = [None, True, 1, "", [(GRID, TEXT)], (GRID, [TEXT, TEXT]), [], (), {}, DEEP] + all_but(TABLE)
 NO_PROGRAM = [None, True, 1, "", "main", [], [("main", 0, [])], (), {}, DEEP] + all_but(PROGRAM)
+NO_WORKSHOP = [None, True, 1, "", "main", [], [("main", 0, [])], (), {}, DEEP] + all_but(WORKSHOP)
 NO_NAME = [None, True, False, 0, 1, "", "ro", "rows", "Main", "main ", ["main"], ("main",), [], {}, {"main": 1},
            DEEP] + OBJECTS
 
@@ -137,6 +140,21 @@ def random_set(chance, many):
     points = [list(point) for point in itertools.product(*[range(sum(limit)) for limit in limits])]
     share = chance.choice([0, 0.2, 0.5, 0.8, 1])
     return PointSet(Grid(limits), [point for point in points if chance.random() < share])
+
+
+def random_automaton(chance, most=4):
+    states = chance.randint(1, most)
+    rows = [[chance.randrange(states) for _ in range(3)] for _ in range(states)]
+    ends = sorted(chance.sample(range(states), chance.randint(0, states)))
+    return Automaton("ab", rows, start=chance.randrange(states), ends=ends)
+
+
+def random_maker(chance, most=4):
+    states = chance.randint(1, most)
+    words = ["", "a", "b", "xy", "aba"]
+    rows = [[(chance.randrange(states), chance.choice(words), chance.random() < 0.5) for _ in range(3)]
+            for _ in range(states)]
+    return Maker("ab", rows, start=chance.randrange(states), closing=[chance.choice(words) for _ in range(states)])
 
 
 def lists_within(value):

@@ -8,10 +8,12 @@ import unittest
 from calls import CALLS
 from helpers import GRID, MAKER, OBJECTS, PROGRAM, TABLE, raised, same_list_twice, spoil
 from openloops.automata import Automaton
+from openloops.errors import InvalidFlag
 from openloops.grids import Grid
 from openloops.pointsets import PointSet, all_points
 from openloops.programs import Program
 from openloops.texts import OpenText
+from openloops.workshop import Workshop
 
 FUNCTIONS = {
     "forms": {"is_form": "many, value", "value": "form, point", "inserted": "form, many, forms"},
@@ -52,6 +54,25 @@ FUNCTIONS = {
                  "parting_parts": "program, one, other", "program_of": "table"},
     "rewriting": {"is_step": "program, many, body, value", "stepped": "program, many, body, step"},
     "derivations": {"derivation": "program, one, other"},
+    "reached": {"reached": "program, name, place", "times_reached": "program, name, place, point",
+                "reach_grid": "program, name", "never_reached": "program, name", "one_way": "program, name",
+                "trimmed": "program, name"},
+    "checked": {"run_state": "program, name, point, automaton", "run_made_length": "program, name, point, maker",
+                "machine_grid": "program, name, automaton", "state_points": "program, name, automaton",
+                "accepted_points": "program, name, automaton", "checked": "program, name, automaton"},
+    "gathering": {"gathered_grid": "grid, inner", "gathered_points": "grid, sets", "gathered_table": "grid, tables",
+                  "accepted_table": "table, automaton", "made_of_table": "table, maker"},
+    "lengths": {"length_points": "table, points", "letter_points": "table, letter, points"},
+    "printer": {"program_text": "program", "line_of": "program, place", "place_at": "program, line"},
+    "reader": {"read_program": "text", "wrong_line": "text"},
+    "mending": {"faults": "text", "mended": "text"},
+    "tabletexts": {"table_text": "table", "read_table": "text"},
+    "tracing": {"way_to": "program, name, point, at", "number_of_way": "program, name, point, way",
+                "written_by": "program, name, point, place, at"},
+    "deeds": {"is_deed": "program, value", "changed": "program, deed", "followed": "program, deed, place",
+              "came_from": "program, deed, place", "may_change": "program, deed", "parts_changed": "program, deed"},
+    "origins": {"born": "workshop, place", "deed_of": "workshop, name, point, at", "shares": "workshop, name, point",
+                "parting_since": "workshop, name, since"},
 }
 CLASSES = {
     "texts": {"OpenText": ("many, pieces", ["many", "pieces", "__eq__"])},
@@ -62,6 +83,8 @@ CLASSES = {
     "makers": {"Maker": ("letters, rows, *, start=0, closing", ["letters", "rows", "start", "closing", "__eq__"])},
     "tables": {"CaseTable": ("grid, texts", ["many", "grid", "texts", "__eq__"])},
     "programs": {"Program": ("parts", ["parts", "__eq__"])},
+    "workshop": {"Workshop": ("program", ["do", "undo", "redo", "program", "many_deeds", "log", "programs", "copy",
+                                          "__eq__", "mark", "marks", "trial", "together"])},
 }
 
 
@@ -130,7 +153,7 @@ class Errors(unittest.TestCase):
     def test_booleans_are_no_numbers(self):
         for function, good, wrong in CALLS:
             for at, (kind, _) in enumerate(wrong):
-                for bad in [True, False]:
+                for bad in [True, False] if kind is not InvalidFlag else []:
                     self.check(function, good[:at] + [bad] + good[at + 1:], kind, bad)
 
 
@@ -170,7 +193,8 @@ class Lists(unittest.TestCase):
 
     def test_methods_return_new_lists(self):
         for made in OBJECTS:
-            for name in ["pieces", "limits", "classes", "rows", "ends", "closing", "texts", "parts"]:
+            for name in ["pieces", "limits", "classes", "rows", "ends", "closing", "texts", "parts", "log",
+                         "marks"]:
                 if hasattr(made, name):
                     kept = copy.deepcopy(getattr(made, name)())
                     self.assertFalse(same_list_twice(kept))
@@ -185,7 +209,7 @@ class Lists(unittest.TestCase):
 class Equal(unittest.TestCase):
     def test_objects_are_equal_to_no_other_objects(self):
         made = [OpenText(1, []), OpenText(2, []), Grid([]), Grid([(0, 1)]), all_points(0), all_points(1),
-                Automaton("", [[0]], ends=[]), MAKER, TABLE, PROGRAM, Program([]), None, True, 0, "", [], (), {}]
+                Automaton("", [[0]], ends=[]), MAKER, TABLE, PROGRAM, Program([]), Workshop(PROGRAM), None, True, 0, "", [], (), {}]
         for at, one in enumerate(made):
             for place, other in enumerate(made):
                 self.assertEqual(one == other, at == place)

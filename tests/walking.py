@@ -81,3 +81,83 @@ def random_program(chance, manys, depth=3):
         parts.append((name, many, random_row(chance, many, known, depth)))
         known.append((name, many))
     return Program(parts)
+
+
+class Trace:
+    """What a plain walk through a part at a point comes to, statement by statement and letter by letter."""
+
+    def __init__(self, program, name, point):
+        self.parts = program.parts()
+        self.visits = {}
+        self.outcomes = {}
+        self.letters = []
+        self.ways = []
+        self.run_part(name, point, [])
+        self.word = "".join(self.letters)
+
+    def run_part(self, name, point, way):
+        body = [part for part in self.parts if part[0] == name][0][2]
+        self.run_row(name, (), body, point, way)
+
+    def run_row(self, name, path, row, point, way):
+        for at, statement in enumerate(row):
+            place = (name, path + (at,))
+            self.visits[place] = self.visits.get(place, 0) + 1
+            kind = statement[0]
+            if kind == "write":
+                for turn, letter in enumerate(statement[1]):
+                    self.letters.append(letter)
+                    self.ways.append(way + [(place, turn)])
+            elif kind == "times":
+                for turn in range(plain_amount(statement[1], point)):
+                    self.run_row(name, path + (at, 0), statement[2], point, way + [(place, turn)])
+            elif kind == "call":
+                values = [plain_amount(amount, point) for amount in statement[2]]
+                self.run_part(statement[1], values, way + [(place, 0)])
+            else:
+                value = plain_amount(statement[1], point)
+                holds = value < statement[2] if kind == "below" else value % statement[3] == statement[2]
+                branch = 0 if holds else 1
+                self.outcomes.setdefault(place, set()).add(branch)
+                self.run_row(name, path + (at, branch), statement[-2 + branch], point, way)
+
+
+def rows_within(statement):
+    """Return the rows of a statement."""
+    if statement[0] == "times":
+        return [statement[2]]
+    return [statement[-2], statement[-1]] if statement[0] in ("below", "leaves") else []
+
+
+def places_of(name, body, path=()):
+    """Return (place, statement) for all statements of a body, each ahead of those in its rows."""
+    found = []
+    for at, statement in enumerate(body):
+        found.append(((name, path + (at,)), statement))
+        for branch, row in enumerate(rows_within(statement)):
+            found += places_of(name, row, path + (at, branch))
+    return found
+
+
+def all_places(program):
+    """Return (place, statement) for all statements of a program."""
+    return [pair for name, _, body in program.parts() for pair in places_of(name, body)]
+
+
+def under(program, name):
+    """Return the names of the parts whose statements are under a part, in order."""
+    bodies = {part: body for part, _, body in program.parts()}
+    names, before = {name}, set()
+    while names != before:
+        before = set(names)
+        for part in before:
+            names |= {statement[1] for _, statement in places_of(part, bodies[part]) if statement[0] == "call"}
+    return [part for part, _, _ in program.parts() if part in names]
+
+
+def nest(depth, inner, amount=((1,), 0, 1)):
+    """Return a row of loops within one another, so many deep with what stands innermost."""
+    row = [inner]
+    for _ in range(depth - 1):
+        row = [("times", amount, row)]
+    return row
