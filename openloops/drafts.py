@@ -14,7 +14,7 @@ class Draft:
 
     def __init__(self):
         self._parts = []
-        self._given = {}
+        self._names = {}
         self._ended = {}
         self._now_open = []
         self._weight = 0
@@ -46,7 +46,7 @@ class Draft:
         if kind == "else" and self._now_open[-1][1] is None:
             return "place"
         if kind == "part":
-            if told[1] in self._given:
+            if told[1] in self._names:
                 return "name"
             return "limit" if len(self._parts) == MOST_PARTS else None
         if kind == "call" and told[1] not in self._ended:
@@ -78,7 +78,7 @@ class Draft:
         """Put what a line tells, which is right, to the program."""
         kind = told[0]
         if kind == "part":
-            self._given[told[1]] = True
+            self._names[told[1]] = True
             self._parts.append((told[1], told[2], []))
             self._weight, self._depth = 0, 0
             self._now_open.append((self._parts[-1][2], None))

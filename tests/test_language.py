@@ -149,6 +149,28 @@ class Names(unittest.TestCase):
                 self.assertTrue(node.attr in METHODS or node.attr in own or node.attr.startswith("_"), node.attr)
 
 
+    def test_generators_and_properties_have_names_of_their_own(self):
+        names = [node.name for node in all_nodes(ast.FunctionDef)]
+        attributes = {node.attr for node in all_nodes(ast.Attribute) if isinstance(node.ctx, ast.Store)}
+        for node in all_nodes(ast.FunctionDef):
+            yields = any(isinstance(inner, (ast.Yield, ast.YieldFrom)) for inner in ast.walk(node))
+            decorators = [ast.unparse(decorator) for decorator in node.decorator_list]
+            if yields or "property" in decorators:
+                self.assertEqual(names.count(node.name), 1, node.name)
+                self.assertNotIn(node.name, attributes)
+
+    def test_no_name_is_a_method_and_an_attribute(self):
+        methods = {part.name for node in all_nodes(ast.ClassDef) for part in node.body if isinstance(part, ast.FunctionDef)}
+        for node in all_nodes(ast.Attribute):
+            if isinstance(node.ctx, ast.Store):
+                self.assertNotIn(node.attr, methods)
+                self.assertIsInstance(node.value, ast.Name)
+
+    def test_functions_in_tables_are_called_by_a_name(self):
+        for node in all_nodes(ast.Call):
+            self.assertIsInstance(node.func, (ast.Name, ast.Attribute), ast.unparse(node))
+
+
 class Statements(unittest.TestCase):
     def test_forbidden_statements_and_signs(self):
         for name in FILES:
