@@ -1,8 +1,8 @@
 """Which parts deeds make.
 
-Each function here is given the parts of a program, as `table_of_parts` tells them, and a deed; it returns the
-list of parts that the deed makes, or None where what it names is not there. Whether they are those of a
-program is not told here.
+There is a function for each kind of deed. It is given the parts of a program, as `table_of_parts` tells them,
+and the deed, and returns the list of parts that the deed makes, or None where what it names is not there; that
+they are those of a program is told afterwards, by making one of them.
 """
 
 from openloops.amounts import amount_behind

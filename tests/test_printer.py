@@ -79,8 +79,14 @@ class Places(unittest.TestCase):
                     self.assertEqual(lines[at - 1].strip().split(" ")[0] in ["end", "else"], place in first)
                     first.setdefault(place, at)
             self.assertEqual(sorted(first), sorted(place for place, _ in all_places(program)))
+            statements = dict(all_places(program))
             for place, at in first.items():
                 self.assertEqual(line_of(program, place), at)
+                kind = statements[place][0]
+                words = lines[at - 1].strip().split(" ")
+                self.assertEqual(words[0], "when" if kind in ("below", "leaves") else kind)
+                self.assertEqual(words[1], statements[place][1] if kind in ("write", "call") else words[1])
+                self.assertEqual(len(lines[at - 1]) - len(lines[at - 1].strip()), len(place[1]) + 1)
 
     def test_the_lines_of_a_statement(self):
         row = [("times", N, [("write", "a")]), ("below", N, 1, [("write", "b")], [("write", "c")]), ("write", "d")]
