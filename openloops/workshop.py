@@ -113,22 +113,21 @@ class Trial:
 
     def __init__(self, shop):
         self._shop = shop
+        # The state at the beginning of the block, None where nothing is to be set back.
         self._before = None
-        self._kept = False
 
     def __enter__(self):
         self._before = self._shop._state
-        self._kept = False
         return self
 
     def __exit__(self, kind, value, trace):
         shop = self._shop
-        if not self._kept:
+        if self._before is not None:
             shop._state = self._before
 
     def keep(self):
         """Let all that is done in the block stand."""
-        self._kept = True
+        self._before = None
 
 
 def require_workshop(workshop):

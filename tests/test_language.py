@@ -6,6 +6,8 @@ import os
 import re
 import unittest
 
+from exitrows import has_arithmetic, methods_of, wrong_rows
+
 PACKAGE = os.path.join(os.path.dirname(os.path.dirname(os.path.abspath(__file__))), "openloops")
 LIBRARY = {"heapq": {"heappush", "heappop", "heapify", "heapreplace", "heappushpop"},
            "math": {"gcd", "lcm", "isqrt", "comb", "perm", "factorial"},
@@ -206,6 +208,98 @@ class Statements(unittest.TestCase):
     def test_equal_objects_have_no_hash_of_their_own(self):
         for node in all_nodes(ast.ClassDef):
             self.assertNotIn("__hash__", [part.name for part in node.body if isinstance(part, ast.FunctionDef)])
+
+
+def exit_of(rows, parameters="self, kind, value, trace"):
+    """Return a method `__exit__` with these rows, the first of which stands in line 3."""
+    inner = "".join([f"        {row}\n" for row in rows.split("\n")])
+    return methods_of(ast.parse(f"class Box:\n    def __exit__({parameters}):\n{inner}"), "__exit__")[0]
+
+
+class Exits(unittest.TestCase):
+    """Rule L6 With: the rows of `__exit__`, where nothing is asked but whether something is None."""
+
+    GOOD = ["pass", "return", "return None", "return False", "net = self.net", "net = self.net\nnet.now = 0",
+            "net = self.net\nnet.rows = self.rows\nself.last = net", "self.word = 'done'", "self.word = b'x'",
+            "self.now = None", "self.now = self.net.now", "self.rows = []", "self.pair = (self.low, [0, None], True)",
+            "self.now += 1", "self.now -= 2", "net = self.net\nnet.now += 1", "self.rows.append(self.now)",
+            "self.rows.append((1, self.now))", "net = self.net\nnet.rows.append(1)", "rows = self.rows\nrows.append(1)",
+            "self.net.rows.clear()", "if kind is None:\n    self.now = 0",
+            "if kind is not None and not self.now is None:\n    return False",
+            "net = self.net\nif net is None or net.now is not None:\n    pass\nelif self.now is None:\n    return\n"
+            "else:\n    net.now = 0", "'''Say what it does.'''\nself.now = 0"]
+    SUMS = ["self.now = self.now + 1", "self.rows = self.rows + [1]", "self.now = self.now - 1",
+            "self.rows.append(self.now + self.next)"]
+    BAD_TESTS = ["self.kept", "not self.kept", "net", "not net", "kind", "not kind", "value is None", "trace is not None",
+                 "self.kept == 1", "self.kept != None", "0 < self.now", "self.now >= 1", "self.kept is True",
+                 "self.kept is not False", "self is None", "kind == None", "kind is net", "None is kind", "True", "1",
+                 "len(self.rows)", "self.rows.count(1)", "self.is_kept()", "self.rows[0] is None", "1 in self.rows",
+                 "self.now is None is None", "self.now is None and self.kept", "self.now is None or kind",
+                 "not (self.now is None and not self.kept)", "(now := self.now) is None", "WORD is None", "-self.now"]
+    BAD_ROWS = ["return True", "return self.kept", "return kind", "return 0", "return 'x'", "return not self.kept", "now = 0",
+                "net = self", "net = self.net.low", "net = other.net", "net = self.net\nnet = self.net", "kind = self.kind",
+                "net = low = self.net", "self.now = self.next = 0", "self.now, self.next = 0, 1", "self.rows[0] = 1",
+                "self.kind = kind", "self.kind = value", "self.told = trace", "self.me = self", "self.now = -1",
+                "self.now = WORD", "self.now = 0.5", "self.now = {}", "self.now = {1}", "self.now = [*self.rows]",
+                "self.now = not self.kept", "self.now = self.low or self.high", "self.now = self.kept is None",
+                "self.now = 1 if self.kept else 0", "self.now = self.rows[0]", "self.now = len(self.rows)",
+                "self.now = [now for now in self.rows]", "self.now = lambda: 0", "self.now = f'{self.low}'",
+                "self.now = self.low * 2", "self.now = self.low - self.high", "self.now += self.low", "self.now += True",
+                "self.now -= -1", "self.now *= 2", "self.net.now = 0", "self.net.now += 1", "self.now: int = 0",
+                "self.rows.pop()", "self.rows.append()", "self.rows.append(1, 2)", "self.rows.append(kind)",
+                "self.rows.append(-1)", "self.rows.append(item=1)", "self.rows.clear(1)", "self.rows[0].append(1)",
+                "rows.append(1)", "kind.append(1)", "print(kind)", "self.undo()", "self.shop.undo()", "1", "self.now",
+                "raise ValueError(kind)", "del self.rows", "assert self.kept", "for row in self.rows:\n    pass",
+                "while self.kept:\n    pass", "with self.other:\n    pass", "try:\n    pass\nfinally:\n    pass",
+                "def low():\n    pass", "match kind:\n    case _:\n        pass", "self.now = (yield)"]
+
+    def test_each_exit_of_the_package(self):
+        arithmetic = has_arithmetic(TREES.values())
+        exits = [(name, method) for name in FILES for method in methods_of(TREES[name], "__exit__")]
+        self.assertIn("workshop.py", [name for name, _ in exits])
+        self.assertEqual(len([node for node in all_nodes(ast.FunctionDef) if node.name == "__exit__"]), len(exits))
+        for name, method in exits:
+            self.assertEqual(wrong_rows(method, arithmetic), [], name)
+
+    def test_each_class_with_an_exit_is_entered_and_is_no_error(self):
+        errors = set(dir(builtins)) | set(own_names(TREES["errors.py"]))
+        for node in all_nodes(ast.ClassDef):
+            ways = {part.name: part for part in node.body if isinstance(part, ast.FunctionDef)}
+            self.assertEqual("__exit__" in ways, "__enter__" in ways, node.name)
+            if "__exit__" in ways:
+                self.assertEqual(ast.unparse(ways["__enter__"].args), "self")
+                self.assertFalse(errors & {ast.unparse(base) for base in node.bases}, node.name)
+
+    def test_rows_that_have_the_form(self):
+        for rows in self.GOOD:
+            self.assertEqual(wrong_rows(exit_of(rows)), [], rows)
+        for rows in self.SUMS:
+            self.assertEqual([wrong_rows(exit_of(rows)), wrong_rows(exit_of(rows), False)], [[3], []], rows)
+        self.assertEqual(wrong_rows(exit_of("self.now = 0", "self, *told")), [])
+        self.assertEqual(wrong_rows(exit_of("self.now = 0", "me, one, two, three")), [3])
+        self.assertEqual(wrong_rows(exit_of("if one is None:\n    me.now = 0", "me, one, two, three")), [])
+
+    def test_rows_that_have_not(self):
+        for rows in self.BAD_ROWS:
+            inner = rows.replace("\n", "\n    ")
+            self.assertNotEqual(wrong_rows(exit_of(rows), False), [], rows)
+            self.assertNotEqual(wrong_rows(exit_of(f"if kind is None:\n    pass\nelse:\n    {inner}"), False), [], rows)
+
+    def test_what_is_asked(self):
+        for test in self.BAD_TESTS:
+            rows = f"net = self.net\nif {test}:\n    net.now = 0"
+            self.assertEqual(wrong_rows(exit_of(rows), False), [4], test)
+            rows = f"net = self.net\nif kind is None:\n    pass\nelif {test}:\n    pass"
+            self.assertEqual(wrong_rows(exit_of(rows), False), [6], test)
+        rows = "shop = self._shop\nif not self._kept:\n    shop._state = self._before"
+        self.assertEqual(wrong_rows(exit_of(rows)), [4])
+        self.assertEqual(wrong_rows(exit_of(rows.replace("not self._kept", "self._before is not None"))), [])
+
+    def test_what_it_is_handed(self):
+        self.assertEqual(wrong_rows(exit_of("if told is None:\n    pass", "self, *told")), [3])
+        for parameters in ["self", "self, kind", "self, kind, value, trace, more", "self, kind, value, trace=None",
+                           "self, *told, more", "self, **told", "*told", "self, kind, value, /, trace"]:
+            self.assertEqual(wrong_rows(exit_of("pass", parameters), False), [2], parameters)
 
 
 if __name__ == "__main__":

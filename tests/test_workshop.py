@@ -53,18 +53,22 @@ class Random(unittest.TestCase):
             chance = random.Random(seed)
             program = calling_program(seed)
             shop, story = Workshop(program), Story(program)
-            self.go_on(chance, shop, story, 3)
+            self.go_on(chance, shop, story, 3, [])
 
-    def go_on(self, chance, shop, story, depth):
-        """Do things with a workshop, in trials too, some of which are kept and some of which end with an error."""
+    def go_on(self, chance, shop, story, depth, used):
+        """Do things with a workshop, in trials too, some of which are kept and some of which end with an error.
+
+        `used` has the objects whose blocks have ended; some of them are entered a second time.
+        """
         for _ in range(6):
             random_call(chance, shop, story)
             if depth > 0 and chance.random() < 0.4:
                 before, keeps, fails = state(shop), chance.random() < 0.5, chance.random() < 0.3
                 kept = story.copy()
+                made = used.pop() if used and chance.random() < 0.5 else shop.trial()
                 try:
-                    with shop.trial() as trial:
-                        self.go_on(chance, shop, story, depth - 1)
+                    with made as trial:
+                        self.go_on(chance, shop, story, depth - 1, used)
                         if keeps:
                             self.assertIsNone(trial.keep())
                             random_call(chance, shop, story)
@@ -72,6 +76,7 @@ class Random(unittest.TestCase):
                             raise Stop()
                 except Stop:
                     self.assertTrue(fails)
+                used.append(made)
                 if not keeps:
                     self.assertEqual(state(shop), before)
                     story.parts, story.deeds, story.now, story.marked = kept.parts, kept.deeds, kept.now, kept.marked
@@ -366,6 +371,193 @@ class Trials(unittest.TestCase):
             shop.do(AHEAD)
         self.assertIsNone(shop.redo())
         self.assertEqual(shop.log(), [MORE])
+
+
+ENDINGS = ["end", "error", "return", "break", "continue"]
+
+
+def marked_shop():
+    """Return a workshop with a mark, a deed that stands and one that is undone."""
+    shop = Workshop(PAIR)
+    shop.do(MORE)
+    shop.do(AHEAD)
+    shop.undo()
+    shop.mark("c", ("main", (1,)))
+    return shop
+
+
+def left(shop, trial, keeps, ending):
+    """Go through a block that ends in some way, and return what the workshop told in the end of it."""
+    for _ in [1]:
+        with trial as held:
+            shop.undo()
+            shop.mark("d", ("main", (0,)))
+            shop.do(MORE)
+            shop.do(AHEAD)
+            if keeps:
+                held.keep()
+            shop.do(AHEAD)
+            shop.undo()
+            shop.mark("c", ("main", (0,)))
+            inside = state(shop)
+            if ending == "error":
+                raise Stop(inside)
+            if ending == "return":
+                return inside
+            if ending == "break":
+                break
+            if ending == "continue":
+                continue
+    return inside
+
+
+def left_at_last(shop, trial, keeps, ending):
+    """Do what `left` does, and take what is told from the error if there is one."""
+    try:
+        return left(shop, trial, keeps, ending)
+    except Stop as stop:
+        return stop.args[0]
+
+
+class Endings(unittest.TestCase):
+    """Each way in which a block ends, kept and not kept."""
+
+    def test_an_object_that_is_new(self):
+        for ending in ENDINGS:
+            for keeps in [False, True]:
+                shop = marked_shop()
+                before = state(shop)
+                inside = left_at_last(shop, shop.trial(), keeps, ending)
+                self.assertNotEqual(inside, before)
+                self.assertEqual(state(shop), inside if keeps else before, (ending, keeps))
+
+    def test_an_object_that_is_entered_a_second_time(self):
+        for first, ending in [(first, ending) for first in ENDINGS for ending in ENDINGS]:
+            for kept, keeps, late in [(kept, keeps, late) for kept in [False, True] for keeps in [False, True]
+                                      for late in [False, True]]:
+                shop = marked_shop()
+                trial = shop.trial()
+                left_at_last(shop, trial, kept, first)
+                # What is done between the blocks stands, whatever the first one was.
+                shop.do(("splice", "main", (), 1, 0, [("write", "z")]))
+                shop.do(AHEAD)
+                shop.undo()
+                if late:
+                    self.assertIsNone(trial.keep())
+                before = state(shop)
+                inside = left_at_last(shop, trial, keeps, ending)
+                self.assertNotEqual(inside, before)
+                self.assertEqual(state(shop), inside if keeps else before, (first, ending, kept, keeps, late))
+
+    def test_one_within_another_one(self):
+        for inner, outer in [(inner, outer) for inner in ENDINGS for outer in ["end", "error"]]:
+            for keeps, holds in [(keeps, holds) for keeps in [False, True] for holds in [False, True]]:
+                shop = marked_shop()
+                before, states = state(shop), []
+                try:
+                    with shop.trial() as trial:
+                        shop.do(("splice", "main", (), 1, 0, [("write", "z")]))
+                        shop.do(AHEAD)
+                        shop.undo()
+                        ahead = state(shop)
+                        inside = left_at_last(shop, shop.trial(), keeps, inner)
+                        self.assertEqual(state(shop), inside if keeps else ahead)
+                        if holds:
+                            trial.keep()
+                        if outer == "error":
+                            raise Stop()
+                except Stop:
+                    states.append("error")
+                self.assertEqual(states, ["error"] if outer == "error" else [])
+                kept = inside if keeps else ahead
+                self.assertEqual(state(shop), kept if holds else before, (inner, outer, keeps, holds))
+
+    def test_an_error_that_ends_both_blocks(self):
+        for keeps, holds in [(keeps, holds) for keeps in [False, True] for holds in [False, True]]:
+            shop = marked_shop()
+            before = state(shop)
+            with self.assertRaises(Stop) as caught:
+                with shop.trial() as trial:
+                    shop.do(MORE)
+                    ahead = state(shop)
+                    if holds:
+                        trial.keep()
+                    left(shop, shop.trial(), keeps, "error")
+            inside = caught.exception.args[0]
+            self.assertEqual(state(shop), (inside if keeps else ahead) if holds else before)
+
+    def test_one_object_twice_within_another_one(self):
+        for kept, keeps in [(kept, keeps) for kept in [False, True] for keeps in [False, True]]:
+            shop = marked_shop()
+            before, again = state(shop), shop.trial()
+            with shop.trial():
+                first = left(shop, again, kept, "end")
+                ahead = state(shop)
+                self.assertEqual(ahead, first if kept else before)
+                shop.do(MORE)
+                shop.do(AHEAD)
+                shop.undo()
+                ahead = state(shop)
+                second = left(shop, again, keeps, "return")
+                self.assertEqual(state(shop), second if keeps else ahead)
+            self.assertEqual(state(shop), before)
+            inside = left(shop, again, keeps, "break")
+            self.assertEqual(state(shop), inside if keeps else before)
+
+    def test_the_error_itself_is_raised_on(self):
+        for error in [Stop("x"), ValueError(1), InvalidDeed(None), StopIteration(), KeyboardInterrupt(), GeneratorExit()]:
+            for keeps in [False, True]:
+                shop = marked_shop()
+                before = state(shop)
+                with self.assertRaises(type(error)) as caught:
+                    with shop.trial() as trial:
+                        shop.do(MORE)
+                        if keeps:
+                            trial.keep()
+                        raise error
+                self.assertIs(caught.exception, error)
+                self.assertEqual([state(shop) == before, shop.many_deeds], [not keeps, 2 if keeps else 1])
+
+    def test_what_is_returned_from_the_block(self):
+        shop = marked_shop()
+
+        def program_made(keeps):
+            with shop.trial() as trial:
+                if keeps:
+                    self.assertIsNone(trial.keep())
+                    self.assertIsNone(trial.keep())
+                shop.do(MORE)
+                return shop.program
+
+        made, before = program_made(False), state(shop)
+        self.assertEqual([made == shop.program, shop.many_deeds], [False, 1])
+        self.assertEqual(state(shop), before)
+        self.assertEqual([program_made(True) == made, shop.program == made, shop.many_deeds], [True, True, 2])
+
+    def test_keep_ahead_of_the_block_and_of_another_object_has_no_effect(self):
+        shop, other = marked_shop(), marked_shop()
+        before, trial, second, far = state(shop), shop.trial(), shop.trial(), other.trial()
+        self.assertIsNone(trial.keep())
+        with trial:
+            shop.do(MORE)
+            second.keep()
+            far.keep()
+        self.assertEqual(state(shop), before)
+        with far:
+            with trial:
+                other.do(MORE)
+                shop.do(MORE)
+                trial.keep()
+        self.assertEqual([shop.many_deeds, other.many_deeds], [2, 1])
+
+    def test_a_block_in_which_nothing_is_done(self):
+        shop = marked_shop()
+        before, trial = state(shop), shop.trial()
+        for keeps in [False, True, False]:
+            with trial:
+                if keeps:
+                    trial.keep()
+            self.assertEqual(state(shop), before)
 
 
 class Together(unittest.TestCase):
