@@ -109,25 +109,39 @@ class Workshop:
 
 
 class Trial:
-    """Sets a workshop back at the end of a block, unless it is told to keep what was done."""
+    """Sets a workshop back at the end of a block, unless it is told to keep what was done in the block."""
 
     def __init__(self, shop):
         self._shop = shop
-        # The state at the beginning of the block, None where nothing is to be set back.
-        self._before = None
+        # The innermost block of this object that has not ended, None if there is none.
+        self._block = None
 
     def __enter__(self):
-        self._before = self._shop._state
+        self._block = Block(self._shop._state, self._block)
         return self
 
     def __exit__(self, kind, value, trace):
         shop = self._shop
-        if self._before is not None:
-            shop._state = self._before
+        block = self._block
+        if block._before is not None:
+            shop._state = block._before
+        self._block = block._outer
 
     def keep(self):
         """Let all that is done in the block stand."""
-        self._before = None
+        block = self._block
+        if block is not None:
+            block._before = None
+
+
+class Block:
+    """What a trial keeps of a block that has not ended, so that another one of its blocks may lie within it."""
+
+    def __init__(self, before, outer):
+        # The state at the beginning of the block, None where nothing is to be set back.
+        self._before = before
+        # The block of the same trial in which this one lies, None if there is none.
+        self._outer = outer
 
 
 def require_workshop(workshop):

@@ -2,6 +2,7 @@
 
 import random
 import unittest
+from itertools import product
 
 from changing import Story, calling_program, plain_program, random_call
 from helpers import SECONDS, lists_within, raised, same_list_twice, seconds, spoil
@@ -58,14 +59,15 @@ class Random(unittest.TestCase):
     def go_on(self, chance, shop, story, depth, used):
         """Do things with a workshop, in trials too, some of which are kept and some of which end with an error.
 
-        `used` has the objects whose blocks have ended; some of them are entered a second time.
+        `used` has the objects that have been entered; some are entered again, also within their own blocks.
         """
         for _ in range(6):
             random_call(chance, shop, story)
             if depth > 0 and chance.random() < 0.4:
                 before, keeps, fails = state(shop), chance.random() < 0.5, chance.random() < 0.3
                 kept = story.copy()
-                made = used.pop() if used and chance.random() < 0.5 else shop.trial()
+                made = chance.choice(used) if used and chance.random() < 0.5 else shop.trial()
+                used.append(made)
                 try:
                     with made as trial:
                         self.go_on(chance, shop, story, depth - 1, used)
@@ -76,7 +78,6 @@ class Random(unittest.TestCase):
                             raise Stop()
                 except Stop:
                     self.assertTrue(fails)
-                used.append(made)
                 if not keeps:
                     self.assertEqual(state(shop), before)
                     story.parts, story.deeds, story.now, story.marked = kept.parts, kept.deeds, kept.now, kept.marked
@@ -450,8 +451,16 @@ class Endings(unittest.TestCase):
                 self.assertEqual(state(shop), inside if keeps else before, (first, ending, kept, keeps, late))
 
     def test_one_within_another_one(self):
+        self.go_through_two(lambda shop, trial: shop.trial())
+
+    def test_one_object_within_its_own_block(self):
+        self.go_through_two(lambda shop, trial: trial)
+
+    def go_through_two(self, second):
+        """Go through one block within another one, for all endings and for what is kept."""
         for inner, outer in [(inner, outer) for inner in ENDINGS for outer in ["end", "error"]]:
-            for keeps, holds in [(keeps, holds) for keeps in [False, True] for holds in [False, True]]:
+            for keeps, holds, early in [(keeps, holds, early) for keeps in [False, True] for holds in [False, True]
+                                        for early in [False, True]]:
                 shop = marked_shop()
                 before, states = state(shop), []
                 try:
@@ -460,20 +469,23 @@ class Endings(unittest.TestCase):
                         shop.do(AHEAD)
                         shop.undo()
                         ahead = state(shop)
-                        inside = left_at_last(shop, shop.trial(), keeps, inner)
+                        if holds and early:
+                            self.assertIsNone(trial.keep())
+                        inside = left_at_last(shop, second(shop, trial), keeps, inner)
                         self.assertEqual(state(shop), inside if keeps else ahead)
-                        if holds:
-                            trial.keep()
+                        if holds and not early:
+                            self.assertIsNone(trial.keep())
                         if outer == "error":
                             raise Stop()
                 except Stop:
                     states.append("error")
                 self.assertEqual(states, ["error"] if outer == "error" else [])
                 kept = inside if keeps else ahead
-                self.assertEqual(state(shop), kept if holds else before, (inner, outer, keeps, holds))
+                self.assertEqual(state(shop), kept if holds else before, (inner, outer, keeps, holds, early))
 
     def test_an_error_that_ends_both_blocks(self):
-        for keeps, holds in [(keeps, holds) for keeps in [False, True] for holds in [False, True]]:
+        for keeps, holds, same in [(keeps, holds, same) for keeps in [False, True] for holds in [False, True]
+                                   for same in [False, True]]:
             shop = marked_shop()
             before = state(shop)
             with self.assertRaises(Stop) as caught:
@@ -482,7 +494,7 @@ class Endings(unittest.TestCase):
                     ahead = state(shop)
                     if holds:
                         trial.keep()
-                    left(shop, shop.trial(), keeps, "error")
+                    left(shop, trial if same else shop.trial(), keeps, "error")
             inside = caught.exception.args[0]
             self.assertEqual(state(shop), (inside if keeps else ahead) if holds else before)
 
@@ -503,6 +515,79 @@ class Endings(unittest.TestCase):
             self.assertEqual(state(shop), before)
             inside = left(shop, again, keeps, "break")
             self.assertEqual(state(shop), inside if keeps else before)
+
+    def test_one_object_within_its_own_blocks_and_those_of_another_one(self):
+        for first, second, third, fourth in product([False, True], repeat=4):
+            shop = Workshop(PAIR)
+            one, other, logs = shop.trial(), shop.trial(), []
+            with one:
+                shop.do(MORE)
+                with other:
+                    shop.do(AHEAD)
+                    with one:
+                        shop.do(MORE)
+                        with one:
+                            shop.do(AHEAD)
+                            if fourth:
+                                one.keep()
+                        logs.append(shop.log())
+                        if third:
+                            one.keep()
+                    logs.append(shop.log())
+                    if second:
+                        other.keep()
+                logs.append(shop.log())
+                if first:
+                    one.keep()
+            logs.append(shop.log())
+            fallen = [MORE, AHEAD, MORE] + ([AHEAD] if fourth else [])
+            expected = [fallen]
+            for keeps, ahead in [(third, [MORE, AHEAD]), (second, [MORE]), (first, [])]:
+                fallen = fallen if keeps else ahead
+                expected.append(fallen)
+            self.assertEqual(logs, expected)
+
+    def test_one_object_within_its_own_block_again_and_again(self):
+        shop = Workshop(PAIR)
+        trial = shop.trial()
+
+        def go_in(depth):
+            with trial:
+                shop.do(AHEAD)
+                shop.mark("m", ("main", (0,)))
+                before = state(shop)
+                if depth > 0:
+                    for _ in range(2):
+                        go_in(depth - 1)
+                        self.assertEqual(state(shop), before)
+
+        before = state(shop)
+        go_in(5)
+        self.assertEqual(state(shop), before)
+        self.assertIsNone(trial.keep())
+        go_in(2)
+        self.assertEqual(state(shop), before)
+
+    def test_keep_is_for_the_innermost_block_of_its_object(self):
+        shop = Workshop(PAIR)
+        one, other = shop.trial(), shop.trial()
+        with one:
+            shop.do(MORE)
+            with other:
+                shop.do(AHEAD)
+                with other:
+                    shop.do(AHEAD)
+                    one.keep()
+                self.assertEqual(shop.log(), [MORE, AHEAD])
+            self.assertEqual(shop.log(), [MORE])
+        self.assertEqual(shop.log(), [MORE])
+        with one:
+            shop.do(AHEAD)
+            with one:
+                one.keep()
+                shop.do(MORE)
+            self.assertEqual(shop.log(), [MORE, AHEAD, MORE])
+        self.assertEqual(shop.log(), [MORE])
 
     def test_the_error_itself_is_raised_on(self):
         for error in [Stop("x"), ValueError(1), InvalidDeed(None), StopIteration(), KeyboardInterrupt(), GeneratorExit()]:
